@@ -1,0 +1,1 @@
+"""Paperbest: a constraint solver whose answers come with a paper."""

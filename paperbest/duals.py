@@ -1,0 +1,156 @@
+"""Best points of sums with their multipliers, and which points are best."""
+
+from paperbest.errors import InvalidPaper
+from paperbest.numbers import added, is_fraction, is_less, taken, timed, weighed, whole
+from paperbest.simplex import cheapest_place, keyed, repaired
+from paperbest.steps import holding_ends
+from paperbest.sums import above_key, check_multipliers, multipliers_of, summed
+from paperbest.tableau import Tableau
+from paperbest.tasks import Task, rows_of, with_goal
+from paperbest.wishes import sum_wish
+
+WORST_MENDS = 20
+
+
+def with_cuts(task, multipliers):
+    """The keys of a tableau's rows replaced by those of wishes and cuts."""
+    numbers = [k for k, _ in rows_of(task)]
+    table = {}
+    for (word, at), times in multipliers:
+        if word == "row":
+            table[("row", numbers[at]) if at < len(numbers) else ("cut", at - len(numbers))] = times
+        else:
+            table[(word, at)] = times
+    return multipliers_of(table)
+
+
+def relaxed(task, cuts, box):
+    """A best point of fractions, its worth and multipliers that give it; or a sum that none suits."""
+    tableau = Tableau(tuple([row for _, row in rows_of(task)]) + tuple(cuts), box)
+    _move_to_cheap_ends(tableau, task.goal)
+    found = _mended_from_worst(tableau, task.goal)
+    multipliers = with_cuts(task, found[1])
+    if found[0] == "sum":
+        return ("none", multipliers)
+    point = tableau.point()
+    return ("best", point, weighed(task.goal, point), multipliers)
+
+
+def _move_to_cheap_ends(tableau, goal):
+    """Let there be no gain, whatever the rows say."""
+    for column, times in enumerate(goal):
+        if times != 0:
+            tableau.move(column, tableau.ends(column)[0 if times > 0 else 1])
+
+
+def _mended_from_worst(tableau, goal):
+    """Repair the place that is furthest beyond an end first, which is quick but might not end."""
+    for _ in range(WORST_MENDS * tableau.places):
+        beyond = _worst_beyond(tableau)
+        if beyond is None:
+            break
+        place, side = beyond
+        column = cheapest_place(tableau, goal, place, side)
+        if column is None:
+            return ("sum", keyed(tableau, holding_ends(tableau, place, side)))
+        tableau.exchange(place, column)
+    return repaired(tableau, goal)
+
+
+def _worst_beyond(tableau):
+    """The place of the basis that is furthest beyond an end, with the side of this, or None."""
+    worst, most = None, whole(0)
+    for place in tableau.basis:
+        value = tableau.value(place)
+        for side, end in enumerate(tableau.ends(place)):
+            if end is None:
+                continue
+            beyond = taken(end, value) if side == 0 else taken(value, end)
+            if is_less(most, beyond):
+                worst, most = (place, side), beyond
+    return worst
+
+
+def suits(task, cuts, box, point):
+    """Whether fractions lie within the ends and keep all rows and cuts."""
+    for value, (low, high) in zip(point, box):
+        if is_less(value, whole(low)) or is_less(whole(high), value):
+            return False
+    for coefficients, equal, bound in [row for _, row in rows_of(task)] + list(cuts):
+        total = weighed(coefficients, point)
+        if is_less(total, whole(bound)) or (equal and total != whole(bound)):
+            return False
+    return True
+
+
+def is_relaxed(task, cuts, box, value):
+    """Whether any value is an answer as relaxed returns it."""
+    if not isinstance(value, tuple) or not value or not isinstance(value[0], str):
+        return False
+    if value[0] == "none" and len(value) == 2:
+        if not _are_multipliers(task, cuts, box, value[1]):
+            return False
+        total, bound = summed(task, cuts, box, value[1])
+        return not any([item[0] != 0 for item in total]) and bound[0] > 0
+    if value[0] == "best" and len(value) == 4:
+        return _is_best(task, cuts, box, value)
+    return False
+
+
+def _is_best(task, cuts, box, value):
+    _, point, worth, multipliers = value
+    if not isinstance(point, tuple) or len(point) != len(task.unknowns):
+        return False
+    if not all([is_fraction(item) for item in point]) or not is_fraction(worth):
+        return False
+    if not _are_multipliers(task, cuts, box, multipliers) or not suits(task, cuts, box, point):
+        return False
+    total, bound = summed(task, cuts, box, multipliers)
+    return total == tuple([whole(item) for item in task.goal]) and weighed(task.goal, point) == worth == bound
+
+
+def _are_multipliers(task, cuts, box, value):
+    try:
+        check_multipliers(task, cuts, box, value)
+    except InvalidPaper:
+        return False
+    return True
+
+
+def gap_of(task, cuts, box, point, multipliers):
+    """What a point is above the keys of multipliers, each times its fraction, added up."""
+    gap = whole(0)
+    for key, times in multipliers:
+        gap = added(gap, timed(times, above_key(task, cuts, box, point, key)))
+    return gap
+
+
+def best_face(task, cuts, box, multipliers):
+    """A task and a box that just the best points suit, told by the multipliers of one."""
+    used = [key for key, _ in multipliers]
+    wishes = []
+    for k, wish in enumerate(task.wishes):
+        wishes.append(("sum", wish[1], True, wish[3]) if ("row", k) in used else wish)
+    for c, (coefficients, _, bound) in enumerate(cuts):
+        wishes.append(sum_wish((coefficients, ("cut", c) in used, bound)))
+    pairs = []
+    for at, (low, high) in enumerate(box):
+        if ("low", at) in used:
+            pairs.append((low, low))
+        else:
+            pairs.append((high, high) if ("high", at) in used else (low, high))
+    return (Task(task.unknowns, tuple(wishes), task.goal), tuple(pairs))
+
+
+def in_turn(task, cuts, box, goals):
+    """The answers for goals in turn, each over the best points of those before."""
+    answers = []
+    for goal in goals:
+        task = with_goal(task, goal)
+        answer = relaxed(task, cuts, box)
+        answers.append(answer)
+        if answer[0] == "none":
+            return tuple(answers)
+        task, box = best_face(task, cuts, box, answer[3])
+        cuts = ()
+    return tuple(answers)

@@ -1,0 +1,75 @@
+"""The examples of the document for the modules that have landed, word for word."""
+
+import doctest
+import unittest
+
+ROWS = '''
+    >>> from paperbest.rows import row_follows, row_of, tight_row
+    >>> row_of(((1, 2), (-2, 3)), "<=", (1, 1)), tight_row(((-4, 6), True, 2)), tight_row(((2, 4), False, 3))
+    (((-3, 4), False, -6), ((2, -3), True, -1), ((1, 2), False, 2))
+    >>> row_follows(((2, 0), False, 1), ((3, 0), False, 3))
+    True
+'''
+
+TASKS = '''
+    >>> from paperbest.tasks import Task, moved, turned
+    >>> task = Task((("x", 0, 9), ("y", 2, 7)), (("sum", (2, 2), False, 5), ("table", (1, 0), ((3, 4), (5, 0)))), (4, 0))
+    >>> moved(task, "y", 3).wishes, turned(task, "x").unknowns[0]
+    ((('sum', (2, 2), False, -1), ('table', (1, 0), ((0, 4), (2, 0)))), ('x', -9, 0))
+'''
+
+COUNTING = '''
+    >>> from paperbest.counting import count_kept
+    >>> count_kept(("unlike", (0, 1, 2)), ((0, 9), (0, 9), (5, 14)))
+    810
+    >>> count_kept(("bench", ((0, 3), (1, 4))), ((0, 10), (2, 8), (0, 1)))
+    72
+'''
+
+STEPS = '''
+    >>> from paperbest.steps import mend_place, place_beyond
+    >>> from paperbest.tableau import Tableau
+    >>> table = Tableau((((1, 1), False, 2), ((1, -1), True, 0)), ((0, 5), (0, 5)))
+    >>> place_beyond(table), mend_place(table, 2, 0), table.basis, table.point()
+    ((2, 0), 0, (0, 3), ((2, 1), (0, 1)))
+    >>> table.entry(3, 1), mend_place(table, 3, 1), place_beyond(table), table.point()
+    ((-2, 1), 1, None, ((1, 1), (1, 1)))
+'''
+
+SIMPLEX = '''
+    >>> from paperbest.simplex import most_steps, point_or_sum, to_best
+    >>> from paperbest.tableau import Tableau
+    >>> table = Tableau((((2, 2), False, 5),), ((0, 9), (0, 9)))
+    >>> point_or_sum(table), to_best(table, (3, 2)), table.point(), most_steps(table)
+    (('point',), ((('low', 0), (1, 1)), (('row', 0), (1, 1))), ((0, 1), (5, 2)), 27)
+'''
+
+LACKS = '''
+    >>> from paperbest.lacks import lack
+    >>> lack(("round", (0, 1, 2, 3)), (1, 0, 3, 2)), lack(("room", ((0, 3, 2), (1, 2, 2)), 3), (0, 1))
+    (2, 2)
+'''
+
+BENCHES = '''
+    >>> from paperbest.benches import bench_draws, least_bench_end
+    >>> from paperbest.tasks import Task
+    >>> unknowns = (("a", 0, 9), ("b", 0, 9), ("c", 0, 9))
+    >>> task = Task(unknowns, (("bench", ((0, 2), (1, 3), (2, 4))),), (0, 0, 0))
+    >>> [draw[:3] for draw in bench_draws(task, 0, ((0, 4), (0, 4), (0, 9)))]
+    [(2, 0, 5)]
+    >>> bench_draws(task, 0, ((0, 1), (0, 1), (0, 9)))[0], least_bench_end(task, 0, ((0, 9), (4, 9), (0, 9)))[0]
+    ('leaf', 9)
+'''
+
+
+class ExamplesTest(unittest.TestCase):
+    def test_examples(self):
+        for at, text in enumerate((ROWS, TASKS, COUNTING, STEPS, SIMPLEX, LACKS, BENCHES)):
+            example = doctest.DocTestParser().get_doctest(text, {}, f"example {at}", None, 0)
+            self.assertTrue(example.examples)
+            result = doctest.DocTestRunner(verbose=False).run(example)
+            self.assertEqual(result.failed, 0)
+
+
+if __name__ == "__main__":
+    unittest.main()

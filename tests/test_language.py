@@ -1,0 +1,386 @@
+"""The rules of the language that the package is written in, as far as a text shows them, and its interface."""
+
+import ast
+import builtins
+import importlib
+import inspect
+import pathlib
+import unittest
+
+FOLDER = pathlib.Path(__file__).resolve().parent.parent / "paperbest"
+FILES = {path.stem: path.read_text(encoding="utf-8") for path in sorted(FOLDER.glob("*.py"))}
+TREES = {name: ast.parse(text) for name, text in FILES.items()}
+
+LIBRARY = {
+    "math": {"gcd", "lcm", "isqrt", "comb", "perm", "factorial"},
+    "heapq": {"heappush", "heappop", "heapify", "heapreplace", "heappushpop"},
+    "itertools": {"product", "combinations", "permutations", "chain", "accumulate", "pairwise", "islice",
+                  "zip_longest"},
+    "collections": {"defaultdict"}}
+
+CALLED = set((
+    "len range enumerate zip min max sum abs sorted reversed int str bool bytes list tuple dict set frozenset "
+    "isinstance ord repr any all divmod pow getattr hasattr setattr map iter next super").split())
+
+METHODS = set((
+    "append clear copy count endswith extend find get index insert isalnum isalpha isdigit islower isspace isupper "
+    "items join keys ljust lower lstrip partition pop remove replace reverse rfind rjust rpartition rsplit rstrip "
+    "setdefault split splitlines startswith strip update upper values zfill bit_length add discard").split())
+
+ERRORS = {"Exception", "ValueError", "TypeError", "KeyError", "IndexError", "LookupError", "ZeroDivisionError",
+          "ArithmeticError", "OverflowError", "RuntimeError", "NotImplementedError", "AttributeError",
+          "StopIteration", "NotImplemented"}
+
+# An interactive Python, and so a doctest, binds _ too.
+BUILTINS = set(dir(builtins)) - {"_"}
+
+BARRED_NODES = (
+    ast.Global, ast.AsyncFunctionDef, ast.AsyncFor, ast.AsyncWith, ast.Await, ast.GeneratorExp, ast.Yield,
+    ast.YieldFrom, ast.Import, ast.Div, ast.MatMult, ast.Set)
+
+BARRED_WORDS = set((
+    "type typing typing_extensions enum Enum IntEnum StrEnum Flag IntFlag Generic Protocol ABC ABCMeta namedtuple "
+    "NamedTuple TypedDict TYPE_CHECKING abstractmethod register mro elements open input law version_info "
+    "with_traceback add_note attrgetter breakpoint builtins compile copyright credits delattr dir eval exec exit gc "
+    "globals help id importlib license locals methodcaller os quit type vars sys").split())
+
+DUNDERS = {"__init__", "__eq__", "__repr__", "__str__", "__len__", "__enter__", "__exit__", "__call__", "__iter__"}
+
+AT_ONCE = {"list", "tuple", "dict", "sorted", "sum", "any", "all", "enumerate", "zip", "min", "max", "len", "reversed"}
+
+INTERFACE = {
+    "errors": "TaskError InvalidTask InvalidText InvalidPoint InvalidBox InvalidPaper InvalidNumber Refused",
+    "benches": "job_windows bench_draws starts_in_sequence least_bench_end",
+    "numbers": "fraction_of whole is_fraction added taken timed parted is_less least_of greatest_of floor_of "
+               "ceiling_of weighed",
+    "rooms": "room_draws pieces_or_load running_needs sure_needs",
+    "lexer": "marks_of",
+    "rows": "slim_row tight_row row_of opposite_row sides_of row_follows parting_point",
+    "steps": "place_beyond fitting_place holding_ends mend_place room_for step_along slopes_of",
+    "sums": "summed check_multipliers multipliers_of joined_multipliers put_for",
+    "tableau": "Tableau",
+    "simplex": "keyed point_or_sum first_gain to_best most_steps cheapest_place repaired hold_best",
+    "wishes": "is_wish sum_wish named_by normal_wishes",
+    "tasks": "Task names_of box_of rows_of place_of goal_step with_wishes with_goal with_box normal_task are_same "
+             "renamed turned moved",
+    "duals": "with_cuts relaxed is_relaxed gap_of best_face in_turn",
+    "lacks": "lack miss best_value",
+    "points": "check_point check_box worth in_box keeps_wish broken keeps",
+    "printer": "show_fraction show_task show_wish show_point",
+    "counting": "count_kept count_work"}
+
+CLASS_PARTS = {
+    ("tableau", "Tableau"): "many places basis columns ends value point entry row_at exchange move put_end mark back "
+                            "add_row"}
+
+PARAMETERS = {
+    "summed": "task cuts box multipliers", "check_multipliers": "task cuts box value",
+    "joined_multipliers": "one other many", "put_for": "multipliers key other", "marks_of": "text",
+    "row_of": "coefficients sense bound", "is_wish": "value size", "Task": "unknowns wishes goal",
+    "renamed": "task names", "turned": "task name", "moved": "task name amount", "with_box": "task box",
+    "check_point": "task value", "keeps_wish": "wish point", "count_kept": "wish box", "count_work": "wish box",
+    "show_wish": "names wish", "show_point": "task point", "Tableau": "rows box", "keyed": "tableau ends",
+    "holding_ends": "tableau place side", "room_for": "tableau column sign", "slopes_of": "tableau coefficients",
+    "to_best": "tableau goal", "cheapest_place": "tableau goal place side", "relaxed": "task cuts box",
+    "is_relaxed": "task cuts box value", "gap_of": "task cuts box point multipliers",
+    "best_face": "task cuts box multipliers", "in_turn": "task cuts box goals", "best_value": "task box point at",
+    "bench_draws": "task k box", "room_draws": "task k box", "starts_in_sequence": "task k box sequence",
+    "least_bench_end": "task k box", "pieces_or_load": "task k box", "running_needs": "task k point",
+    "sure_needs": "task k box", "job_windows": "task k box"}
+
+
+def nodes():
+    """All nodes of all files, with the name of the file and the nodes above them."""
+    for name, tree in TREES.items():
+        above = {child: node for node in ast.walk(tree) for child in ast.iter_child_nodes(node)}
+        for node in ast.walk(tree):
+            yield name, node, above
+
+
+def functions():
+    for name, node, above in nodes():
+        if isinstance(node, ast.FunctionDef):
+            yield name, node, above
+
+
+def is_call(node, names):
+    return isinstance(node, ast.Call) and isinstance(node.func, ast.Name) and node.func.id in names
+
+
+OWN_METHODS = {node.name for _, node, above in functions() if isinstance(above[node], ast.ClassDef)}
+OWN_CLASSES = {node.name for _, node, _ in nodes() if isinstance(node, ast.ClassDef)}
+
+
+class TextTest(unittest.TestCase):
+    def test_files(self):
+        self.assertTrue(all(path.suffix == ".py" for path in FOLDER.iterdir() if path.name != "__pycache__"))
+        self.assertIn("__init__", FILES)
+        self.assertLessEqual(len(FILES), 100)
+        for name, text in FILES.items():
+            self.assertEqual(name, name.lower())
+            self.assertTrue(name not in BUILTINS or name == "__init__", name)
+            self.assertTrue(all(sign == "\n" or " " <= sign <= "~" for sign in text), name)
+            lines = text.split("\n")
+            self.assertLessEqual(len(lines), 399, name)
+            for number, line in enumerate(lines):
+                self.assertLessEqual(len(line), 120, (name, number + 1))
+                self.assertEqual(line, line.rstrip(), (name, number + 1))
+            for word in ("dataclass", "overload", "contextmanager", "_wall"):
+                self.assertNotIn(word, text, name)
+
+    def test_functions(self):
+        for name, node, _ in functions():
+            self.assertLessEqual(node.end_lineno - node.lineno + 1, 40, (name, node.name))
+            for decorator in node.decorator_list:
+                self.assertEqual(getattr(decorator, "id", None), "property", (name, node.name))
+            self.assertIsNone(node.returns)
+
+    def test_top_level(self):
+        for name, tree in TREES.items():
+            for at, node in enumerate(tree.body):
+                kinds = (ast.ImportFrom, ast.FunctionDef, ast.ClassDef, ast.Assign)
+                docstring = at == 0 and isinstance(node, ast.Expr) and isinstance(node.value, ast.Constant)
+                self.assertTrue(docstring or isinstance(node, kinds), (name, node.lineno))
+                if isinstance(node, ast.Assign):
+                    self.assertEqual([type(target) for target in node.targets], [ast.Name], (name, node.lineno))
+                    for part in ast.walk(node.value):
+                        self.assertNotIsInstance(part, (ast.Call, ast.BinOp, ast.ListComp), (name, node.lineno))
+
+
+class NamesTest(unittest.TestCase):
+    def test_imports(self):
+        for name, node, above in nodes():
+            if not isinstance(node, ast.ImportFrom):
+                continue
+            self.assertIsInstance(above[node], ast.Module)
+            self.assertEqual(node.level, 0)
+            for item in node.names:
+                self.assertIsNone(item.asname)
+                if node.module in LIBRARY:
+                    self.assertIn(item.name, LIBRARY[node.module])
+                    continue
+                package, _, module = node.module.partition(".")
+                self.assertEqual(package, "paperbest", (name, node.module))
+                defined = {part.name for part in TREES[module].body if hasattr(part, "name")}
+                defined |= {part.targets[0].id for part in TREES[module].body if isinstance(part, ast.Assign)}
+                self.assertIn(item.name, defined, (name, node.module))
+                used = [part.id for part in ast.walk(TREES[name]) if isinstance(part, ast.Name)]
+                self.assertIn(item.name, used, (name, node.module))
+
+    def test_no_circles(self):
+        imports = {name: {node.module.partition(".")[2] for node in tree.body if isinstance(node, ast.ImportFrom)
+                          and node.module.startswith("paperbest.")} for name, tree in TREES.items()}
+        done = set()
+        while len(done) < len(imports):
+            ready = {name for name in imports if name not in done and imports[name] <= done}
+            self.assertTrue(ready, imports)
+            done |= ready
+
+    def test_names_that_are_bound(self):
+        for name, tree in TREES.items():
+            imported = {item.name for node in tree.body if isinstance(node, ast.ImportFrom) for item in node.names}
+            classes = {node.name for node in tree.body if isinstance(node, ast.ClassDef)}
+            top = [part.name for part in tree.body if hasattr(part, "name")] + sorted(imported)
+            self.assertEqual(len(top), len(set(top)), name)
+            bound = set()
+            for node in ast.walk(tree):
+                if isinstance(node, ast.Name) and not isinstance(node.ctx, ast.Load):
+                    bound.add(node.id)
+                if isinstance(node, ast.arg):
+                    bound.add(node.arg)
+                if isinstance(node, ast.FunctionDef) and node.name not in OWN_METHODS:
+                    bound.add(node.name)
+            self.assertEqual(bound & (imported | classes), set(), name)
+            self.assertEqual(bound & BUILTINS, set(), name)
+            for item in bound:
+                self.assertFalse(item.startswith("__"), (name, item))
+                self.assertTrue(item == "_" or item.strip("_")[:1].isalpha(), (name, item))
+
+    def test_barred_words(self):
+        for name, node, _ in nodes():
+            words = [getattr(node, part, None) for part in ("id", "name", "arg", "attr")]
+            for word in words:
+                self.assertNotIn(word, BARRED_WORDS, (name, getattr(node, "lineno", None)))
+
+    def test_names_in_inner_comprehensions(self):
+        kinds = (ast.ListComp, ast.SetComp, ast.DictComp)
+        for name, node, above in nodes():
+            if not isinstance(node, kinds):
+                continue
+            around, outer = above[node], []
+            while not isinstance(around, (ast.FunctionDef, ast.Module)):
+                outer.extend([around] if isinstance(around, kinds) else [])
+                around = above[around]
+            if not outer or isinstance(around, ast.Module):
+                continue
+            inner = {part.id for comp in node.generators for part in ast.walk(comp.target) if isinstance(part, ast.Name)}
+            bound = {part.arg for part in ast.walk(around) if isinstance(part, ast.arg)}
+            for part in ast.walk(around):
+                if isinstance(part, ast.Name) and isinstance(part.ctx, ast.Store):
+                    holders, at = [], part
+                    while at is not around:
+                        holders.append(at)
+                        at = above[at]
+                    if node not in holders:
+                        bound.add(part.id)
+            self.assertEqual(inner & bound - {"_"}, set(), (name, node.lineno))
+
+    def test_underscore_is_never_read(self):
+        for name, node, _ in nodes():
+            if isinstance(node, ast.Name) and node.id == "_":
+                self.assertIsInstance(node.ctx, ast.Store, (name, node.lineno))
+
+
+class CodeTest(unittest.TestCase):
+    def test_barred_nodes(self):
+        for name, node, _ in nodes():
+            self.assertNotIsInstance(node, BARRED_NODES, (name, getattr(node, "lineno", None)))
+            if isinstance(node, ast.Constant):
+                self.assertNotIsInstance(node.value, (float, complex), (name, node.lineno))
+
+    def test_strings(self):
+        for name, node, above in nodes():
+            if isinstance(node, ast.Constant) and isinstance(node.value, str):
+                self.assertNotIn("%", node.value, (name, node.lineno))
+                self.assertFalse(node.value.startswith("__"), (name, node.lineno))
+            if isinstance(node, ast.FormattedValue):
+                self.assertEqual(node.conversion, -1)
+                self.assertIsNone(node.format_spec)
+                for part in ast.walk(node.value):
+                    self.assertFalse(isinstance(part, ast.Constant) and isinstance(part.value, (str, bytes)))
+
+    def test_powers(self):
+        for name, node, _ in nodes():
+            if isinstance(node, ast.BinOp) and isinstance(node.op, ast.Pow):
+                self.assertIsInstance(node.right, ast.Constant, (name, node.lineno))
+
+    def test_is(self):
+        for name, node, _ in nodes():
+            if isinstance(node, ast.Compare):
+                for sign, other in zip(node.ops, node.comparators):
+                    if isinstance(sign, (ast.Is, ast.IsNot)):
+                        self.assertIsInstance(other, ast.Constant, (name, node.lineno))
+                        self.assertIn(other.value, (None, True, False))
+
+    def test_calls(self):
+        defined = {node.name for _, node, _ in nodes() if isinstance(node, (ast.FunctionDef, ast.ClassDef))}
+        library = {name for names in LIBRARY.values() for name in names}
+        for name, node, above in nodes():
+            if not isinstance(node, ast.Call):
+                continue
+            place = (name, node.lineno)
+            if isinstance(node.func, ast.Name):
+                word = node.func.id
+                local = word in self.locals_around(node, above)
+                self.assertTrue(word in defined | library | CALLED or local, place)
+                if word in CALLED | library:
+                    self.check_keywords(word, node, place)
+                if word == "isinstance":
+                    self.check_class(node.args[1], place)
+            elif isinstance(node.func, ast.Attribute):
+                self.assertIn(node.func.attr, METHODS | OWN_METHODS, place)
+                if node.func.attr not in OWN_METHODS:
+                    self.assertEqual(node.keywords, [], place)
+            else:
+                self.fail(place)
+
+    def locals_around(self, node, above):
+        while not isinstance(node, (ast.FunctionDef, ast.Module)):
+            node = above[node]
+        return {part.id for part in ast.walk(node) if isinstance(part, ast.Name) and isinstance(part.ctx, ast.Store)}
+
+    def check_keywords(self, word, node, place):
+        allowed = {"sorted": {"key", "reverse"}, "min": {"key", "default"}, "max": {"key", "default"},
+                   "sum": {"start"}, "enumerate": {"start"}, "zip": {"strict"}}
+        self.assertLessEqual({item.arg for item in node.keywords}, allowed.get(word, set()), place)
+        if word not in ("zip", "max", "min"):
+            self.assertFalse(any(isinstance(item, ast.Starred) for item in node.args), place)
+
+    def check_class(self, node, place):
+        items = node.elts if isinstance(node, ast.Tuple) else [node]
+        for item in items:
+            self.assertIn(item.id, OWN_CLASSES | {"int", "str", "bool", "bytes", "list", "tuple", "dict"}, place)
+
+    def test_iterated_at_once(self):
+        for name, node, above in nodes():
+            views = isinstance(node, ast.Call) and isinstance(node.func, ast.Attribute) and node.func.attr in (
+                "items", "keys", "values")
+            if not views and not is_call(node, {"zip", "enumerate", "reversed", "range", "map"}):
+                continue
+            parent = above[node]
+            at_once = (isinstance(parent, (ast.For, ast.comprehension)) and parent.iter is node) or (
+                is_call(parent, AT_ONCE) and parent.args[0] is node)
+            compared = is_call(node, {"range"}) and isinstance(parent, ast.Compare)
+            self.assertTrue(at_once or compared, (name, node.lineno))
+
+    def test_sets(self):
+        for name, node, above in nodes():
+            if is_call(node, {"set"}) or isinstance(node, ast.SetComp):
+                parent = above[node]
+                self.assertTrue(is_call(parent, {"sorted", "len"}) and not parent.keywords, (name, node.lineno))
+
+    def test_errors(self):
+        for name, node, _ in nodes():
+            if isinstance(node, ast.Raise):
+                self.assertTrue(isinstance(node.exc, ast.Call) and isinstance(node.exc.func, ast.Name),
+                                (name, node.lineno))
+            if isinstance(node, ast.ExceptHandler):
+                self.assertIsInstance(node.type, ast.Name, (name, node.lineno))
+                self.assertNotIn(node.type.id, ERRORS - {"KeyError", "ZeroDivisionError"}, (name, node.lineno))
+
+    def test_loops_do_not_change_what_they_go_over(self):
+        changing = {"append", "clear", "extend", "insert", "pop", "remove", "reverse", "setdefault", "update"}
+        for name, node, _ in nodes():
+            if not isinstance(node, ast.For):
+                continue
+            over = {ast.unparse(part) for part in ast.walk(node.iter) if isinstance(part, (ast.Name, ast.Attribute))}
+            if is_call(node.iter, {"sorted", "list", "range"}):
+                continue
+            for part in ast.walk(node):
+                if isinstance(part, ast.Call) and isinstance(part.func, ast.Attribute) and part.func.attr in changing:
+                    self.assertNotIn(ast.unparse(part.func.value), over, (name, part.lineno))
+                if isinstance(part, ast.Subscript) and not isinstance(part.ctx, ast.Load):
+                    self.assertNotIn(ast.unparse(part.value), over, (name, part.lineno))
+
+    def test_classes(self):
+        for name, node, above in nodes():
+            if not isinstance(node, ast.ClassDef):
+                continue
+            self.assertIsInstance(above[node], ast.Module)
+            self.assertEqual(node.decorator_list + node.keywords, [])
+            for part in node.body:
+                self.assertIsInstance(part, (ast.FunctionDef, ast.Expr, ast.Pass), (name, node.name))
+                if isinstance(part, ast.FunctionDef) and part.name.startswith("__"):
+                    self.assertIn(part.name, DUNDERS, (name, node.name))
+            methods = {part.name for part in node.body if isinstance(part, ast.FunctionDef)}
+            attributes = {part.attr for part in ast.walk(node) if isinstance(part, ast.Attribute)
+                          and isinstance(part.ctx, ast.Store)}
+            self.assertEqual(methods & attributes, set(), (name, node.name))
+
+
+class InterfaceTest(unittest.TestCase):
+    def test_names_are_defined_where_they_are_listed(self):
+        for module, words in INTERFACE.items():
+            defined = {node.name for node in TREES[module].body if isinstance(node, (ast.FunctionDef, ast.ClassDef))}
+            self.assertLessEqual(set(words.split()), defined, module)
+            for word in words.split():
+                self.assertTrue(hasattr(importlib.import_module("paperbest." + module), word))
+
+    def test_parts_of_classes(self):
+        for (module, word), parts in CLASS_PARTS.items():
+            node = next(node for node in TREES[module].body if getattr(node, "name", None) == word)
+            methods = {part.name for part in node.body if isinstance(part, ast.FunctionDef)}
+            self.assertLessEqual(set(parts.split()), methods)
+            properties = {part.name for part in node.body if getattr(part, "decorator_list", None)}
+            self.assertEqual(properties, {"many", "places", "basis", "columns"})
+
+    def test_parameters(self):
+        for module, words in INTERFACE.items():
+            for word in words.split():
+                if word in PARAMETERS:
+                    value = getattr(importlib.import_module("paperbest." + module), word)
+                    self.assertEqual(" ".join(inspect.signature(value).parameters), PARAMETERS[word], word)
+
+
+if __name__ == "__main__":
+    unittest.main()
