@@ -1,7 +1,10 @@
 """The examples of the document for the modules that have landed, word for word."""
 
 import doctest
+import pathlib
 import unittest
+
+README = pathlib.Path(__file__).resolve().parent.parent / "README.md"
 
 ROWS = '''
     >>> from paperbest.rows import row_follows, row_of, tight_row
@@ -69,6 +72,10 @@ class ExamplesTest(unittest.TestCase):
             self.assertTrue(example.examples)
             result = doctest.DocTestRunner(verbose=False).run(example)
             self.assertEqual(result.failed, 0)
+
+    def test_readme(self):
+        result = doctest.testfile(str(README), module_relative=False)
+        self.assertEqual((result.failed, result.attempted > 0), (0, True))
 
 
 if __name__ == "__main__":
