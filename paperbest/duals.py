@@ -1,10 +1,9 @@
 """Best points of sums with their multipliers, and which points are best."""
 
-from paperbest.errors import InvalidPaper
-from paperbest.numbers import added, is_fraction, is_less, taken, timed, weighed, whole
-from paperbest.simplex import cheapest_place, keyed, repaired
-from paperbest.steps import holding_ends
-from paperbest.sums import above_key, check_multipliers, multipliers_of, summed
+from paperbest.numbers import added, is_fraction, is_less, parted, taken, timed, weighed, whole
+from paperbest.simplex import keyed, repaired
+from paperbest.steps import can_move, holding_ends, mending_sign, slopes_of
+from paperbest.sums import above_key, are_multipliers, multipliers_of, summed
 from paperbest.tableau import Tableau
 from paperbest.tasks import Task, rows_of, with_goal
 from paperbest.wishes import sum_wish
@@ -24,11 +23,15 @@ def with_cuts(task, multipliers):
     return multipliers_of(table)
 
 
+def tableau_of(task, cuts, box):
+    """The tableau of the sums of a task, then of the cuts, over a box."""
+    return Tableau(tuple([row for _, row in rows_of(task)]) + tuple(cuts), box)
+
+
 def relaxed(task, cuts, box):
     """A best point of fractions, its worth and multipliers that give it; or a sum that none suits."""
-    tableau = Tableau(tuple([row for _, row in rows_of(task)]) + tuple(cuts), box)
-    _move_to_cheap_ends(tableau, task.goal)
-    found = _mended_from_worst(tableau, task.goal)
+    tableau = tableau_of(task, cuts, box)
+    found = solved(tableau, task.goal)
     multipliers = with_cuts(task, found[1])
     if found[0] == "sum":
         return ("none", multipliers)
@@ -36,25 +39,57 @@ def relaxed(task, cuts, box):
     return ("best", point, weighed(task.goal, point), multipliers)
 
 
-def _move_to_cheap_ends(tableau, goal):
-    """Let there be no gain, whatever the rows say."""
-    for column, times in enumerate(goal):
-        if times != 0:
-            tableau.move(column, tableau.ends(column)[0 if times > 0 else 1])
+def solved(tableau, goal):
+    """Bring a tableau whose columns are the unknowns to a best point, as repaired does."""
+    second = _second_goal(tableau.many)
+    for column, (times, other) in enumerate(zip(goal, second)):
+        slope = times if times != 0 else other
+        tableau.move(column, tableau.ends(column)[0 if slope > 0 else 1])
+    return mended(tableau, goal)
 
 
-def _mended_from_worst(tableau, goal):
+def _second_goal(many):
+    """A goal that breaks ties: with unlike integers mends seldom leave everything as it was."""
+    return tuple([1 + (at + 1) * (at + 3) * 7919 % 1009 for at in range(many)])
+
+
+def mended(tableau, goal):
     """Repair the place that is furthest beyond an end first, which is quick but might not end."""
+    second = _second_goal(tableau.many)
     for _ in range(WORST_MENDS * tableau.places):
         beyond = _worst_beyond(tableau)
         if beyond is None:
             break
         place, side = beyond
-        column = cheapest_place(tableau, goal, place, side)
+        column = _cheapest_in_turn(tableau, (goal, second), place, side)
         if column is None:
             return ("sum", keyed(tableau, holding_ends(tableau, place, side)))
         tableau.exchange(place, column)
     return repaired(tableau, goal)
+
+
+def _cheapest_in_turn(tableau, goals, place, side):
+    """The column that brings a place nearer to its end at the least loss of the first goal, then of the next one."""
+    row = tableau.row_at(place)
+    columns = [column for column in row if can_move(tableau, column, mending_sign(side, row[column]))]
+    for goal in goals:
+        if len(columns) > 1:
+            columns = _cheapest_of(columns, row, slopes_of(tableau, goal))
+    return columns[0] if columns else None
+
+
+def _cheapest_of(columns, row, slopes):
+    """Those of the columns whose loss is least."""
+    cheapest, least = [], None
+    for column, slope in slopes:
+        if column not in columns:
+            continue
+        loss = parted((abs(slope[0]), slope[1]), (abs(row[column][0]), row[column][1]))
+        if least is None or is_less(loss, least):
+            cheapest, least = [], loss
+        if loss == least:
+            cheapest.append(column)
+    return cheapest
 
 
 def _worst_beyond(tableau):
@@ -88,7 +123,7 @@ def is_relaxed(task, cuts, box, value):
     if not isinstance(value, tuple) or not value or not isinstance(value[0], str):
         return False
     if value[0] == "none" and len(value) == 2:
-        if not _are_multipliers(task, cuts, box, value[1]):
+        if not are_multipliers(task, cuts, box, value[1]):
             return False
         total, bound = summed(task, cuts, box, value[1])
         return not any([item[0] != 0 for item in total]) and bound[0] > 0
@@ -103,18 +138,10 @@ def _is_best(task, cuts, box, value):
         return False
     if not all([is_fraction(item) for item in point]) or not is_fraction(worth):
         return False
-    if not _are_multipliers(task, cuts, box, multipliers) or not suits(task, cuts, box, point):
+    if not are_multipliers(task, cuts, box, multipliers) or not suits(task, cuts, box, point):
         return False
     total, bound = summed(task, cuts, box, multipliers)
     return total == tuple([whole(item) for item in task.goal]) and weighed(task.goal, point) == worth == bound
-
-
-def _are_multipliers(task, cuts, box, value):
-    try:
-        check_multipliers(task, cuts, box, value)
-    except InvalidPaper:
-        return False
-    return True
 
 
 def gap_of(task, cuts, box, point, multipliers):

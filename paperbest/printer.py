@@ -40,12 +40,12 @@ def show_wish(names, wish):
     if wish[0] == "either":
         return " or ".join([_show_sum(names, item) for item in wish[1]])
     if wish[0] == "table":
-        return f"table {_show_names(names, wish[1])}: " + ", ".join([_show_integers(lot) for lot in wish[2]])
+        return f"table {show_names(names, wish[1])}: " + ", ".join([show_integers(lot) for lot in wish[2]])
     if wish[0] == "bench":
         return "bench " + _show_jobs(names, wish[1])
     if wish[0] == "room":
         return f"room {wish[2]}: " + _show_jobs(names, wish[1])
-    return f"{wish[0]} {_show_names(names, wish[1])}"
+    return f"{wish[0]} {show_names(names, wish[1])}"
 
 
 def _show_sum(names, wish):
@@ -54,16 +54,18 @@ def _show_sum(names, wish):
     return f"{show_terms(names, coefficients)} {sign} {bound}"
 
 
-def _show_names(names, places):
+def show_names(names, places):
+    """The names of some places."""
     return " ".join([names[place] for place in places])
 
 
-def _show_integers(integers):
+def show_integers(integers):
+    """Integers with blanks between them."""
     return " ".join([str(integer) for integer in integers])
 
 
 def _show_jobs(names, jobs):
-    return ", ".join([names[job[0]] + " " + _show_integers(job[1:]) for job in jobs])
+    return ", ".join([names[job[0]] + " " + show_integers(job[1:]) for job in jobs])
 
 
 def show_point(task, point):

@@ -59,6 +59,15 @@ def check_multipliers(task, cuts, box, value):
         before = item[0]
 
 
+def are_multipliers(task, cuts, box, value):
+    """Whether any value is multipliers over these sums, cuts and ends."""
+    try:
+        check_multipliers(task, cuts, box, value)
+    except InvalidPaper:
+        return False
+    return True
+
+
 def _is_pair(task, cuts, value):
     if not isinstance(value, tuple) or len(value) != 2:
         return False

@@ -64,10 +64,30 @@ BENCHES = '''
     ('leaf', 9)
 '''
 
+READER = '''
+    >>> from paperbest.printer import show_task
+    >>> from paperbest.reader import read_task, read_wishes
+    >>> text = "greatest x - 2 y\\n1 <= x + 1/2 y <= 5\\nroom 3: y 2 1, x 4 3\\nunknown x 0 9\\nunknown y -3 3"
+    >>> show_task(read_task(text)).split("\\n")[:4]
+    ['least -x + 2 y', '2 x + y >= 2', '-2 x - y >= -10', 'room 3: x 4 3, y 2 1']
+    >>> read_wishes(("x", "y"), "if x >= 2 and x + y <= 1/2 then y >= 4")
+    (('either', (('sum', (-1, 0), False, -1), ('sum', (2, 2), False, 2), ('sum', (0, 1), False, 4))),)
+'''
+
+PRICES = '''
+    >>> from paperbest.prices import priced_draws
+    >>> from paperbest.tasks import Task
+    >>> task = Task((("x", 0, 9), ("y", 0, 9)), (("sum", (2, 2), False, 5),), (3, 2))
+    >>> [draw[:3] for draw in priced_draws(task, (), ((0, 9), (0, 9)), 7)[0]]
+    [(0, 1, 1)]
+'''
+
+EXAMPLES = (ROWS, TASKS, COUNTING, STEPS, SIMPLEX, LACKS, BENCHES, READER, PRICES)
+
 
 class ExamplesTest(unittest.TestCase):
     def test_examples(self):
-        for at, text in enumerate((ROWS, TASKS, COUNTING, STEPS, SIMPLEX, LACKS, BENCHES)):
+        for at, text in enumerate(EXAMPLES):
             example = doctest.DocTestParser().get_doctest(text, {}, f"example {at}", None, 0)
             self.assertTrue(example.examples)
             result = doctest.DocTestRunner(verbose=False).run(example)

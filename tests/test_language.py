@@ -67,7 +67,26 @@ INTERFACE = {
     "lacks": "lack miss best_value",
     "points": "check_point check_box worth in_box keeps_wish broken keeps",
     "printer": "show_fraction show_task show_wish show_point",
-    "counting": "count_kept count_work"}
+    "counting": "count_kept count_work",
+    "hours": "running load_between peak seats",
+    "leaves": "leaf_holds draw_holds box_after tree_after",
+    "moves": "pair_moves is_still descent",
+    "nodes": "point_count most_nodes most_depth unwhole_places whole_point first_broken settled_wish split_place "
+             "halving_place boxes_around reaches",
+    "plain": "count_points points_in plain_points plain_best",
+    "prices": "priced_draws exact_draws",
+    "reader": "read_task completed read_wishes read_point",
+    "cases": "opposite_cases",
+    "commands": "read_command read_script",
+    "crowds": "crowd_leaf crowd_point full_stretches crowd_box crowd_draws",
+    "eithers": "open_sums either_left either_point sure_sum either_box either_draws",
+    "ends": "telling row_draws sum_draws goal_draws",
+    "papers": "Paper Best Nothing cut_row cut_rows split_box leaves_of",
+    "rings": "next_places reached_places reaching_places ring_leaf round_leaf round_rests round_draws",
+    "rounding": "free_ways rounded_by_signs nearest_point turns_of rounded_at threshold_points best_threshold",
+    "showing": "shown is_shown",
+    "answertexts": "show_answer read_answer",
+    "cheapest": "cheapest_unlike is_cheapest"}
 
 CLASS_PARTS = {
     ("tableau", "Tableau"): "many places basis columns ends value point entry row_at exchange move put_end mark back "
@@ -86,7 +105,31 @@ PARAMETERS = {
     "best_face": "task cuts box multipliers", "in_turn": "task cuts box goals", "best_value": "task box point at",
     "bench_draws": "task k box", "room_draws": "task k box", "starts_in_sequence": "task k box sequence",
     "least_bench_end": "task k box", "pieces_or_load": "task k box", "running_needs": "task k point",
-    "sure_needs": "task k box", "job_windows": "task k box"}
+    "sure_needs": "task k box", "job_windows": "task k box",
+    "running": "wish point moment", "load_between": "wish point first last", "peak": "wish point",
+    "seats": "wish point", "leaf_holds": "task cuts box value worth", "draw_holds": "task cuts box value worth",
+    "box_after": "box draw", "tree_after": "draws tree", "pair_moves": "box point", "is_still": "task box point",
+    "descent": "task box point most", "point_count": "box", "most_nodes": "task", "most_depth": "task halving",
+    "unwhole_places": "point", "whole_point": "point", "first_broken": "task point", "settled_wish": "task box",
+    "split_place": "task box point", "halving_place": "box", "boxes_around": "box point", "reaches": "bound known",
+    "count_points": "box", "points_in": "box", "plain_points": "task", "plain_best": "task",
+    "priced_draws": "task cuts box worth", "exact_draws": "task cuts box", "read_task": "text", "completed": "text",
+    "read_wishes": "names text", "read_point": "task text", "opposite_cases": "task wish",
+    "read_command": "names text", "read_script": "text",
+    "crowd_leaf": "task number box", "crowd_point": "task number box", "full_stretches": "task number box",
+    "crowd_box": "task number box", "crowd_draws": "task number box", "open_sums": "task number box",
+    "either_left": "task number box", "either_point": "task number box", "sure_sum": "task number box",
+    "either_box": "task number box", "either_draws": "task number box", "telling": "row box at side",
+    "row_draws": "key row box", "sum_draws": "task k box", "goal_draws": "task worth box",
+    "Paper": "cuts tree", "Best": "point worth paper", "Nothing": "paper", "cut_row": "task cuts multipliers",
+    "cut_rows": "task value", "split_box": "box at k", "leaves_of": "task tree",
+    "next_places": "task number box place", "reached_places": "task number box place",
+    "reaching_places": "task number box place", "ring_leaf": "task number box", "round_leaf": "task number box",
+    "round_rests": "task number box", "round_draws": "task number box", "free_ways": "task",
+    "rounded_by_signs": "task start", "nearest_point": "start", "turns_of": "task",
+    "rounded_at": "start turns threshold", "threshold_points": "start turns", "best_threshold": "task start",
+    "shown": "wish point", "is_shown": "wish point value", "show_answer": "task answer",
+    "read_answer": "task text", "cheapest_unlike": "task number box", "is_cheapest": "task number box value"}
 
 
 def nodes():

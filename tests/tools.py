@@ -167,3 +167,115 @@ def generator(seed):
 
 def changed(point, at, value):
     return point[:at] + (value,) + point[at + 1:]
+
+
+def given(task, cuts, box, multipliers):
+    """What multipliers give, with fractions of Python; None if they are none."""
+    form, bound, before = [Fraction(0)] * len(task.unknowns), Fraction(0), None
+    for key, times in multipliers:
+        word, at = key
+        times = Fraction(times[0], times[1])
+        equal = False
+        if word == "row":
+            _, row, equal, end = task.wishes[at]
+        elif word == "cut":
+            row, _, end = cuts[at]
+        else:
+            row = [0] * len(form)
+            row[at] = 1 if word == "low" else -1
+            end = box[at][0] if word == "low" else -box[at][1]
+        if (before is not None and key <= before) or times == 0 or (times < 0 and not equal):
+            return None
+        before = key
+        form = [one + times * item for one, item in zip(form, row)]
+        bound += times * end
+    return form, bound
+
+
+def leaf_is_right(task, cuts, box, leaf, worth=None):
+    """Whether a leaf holds over a box, as point 28 says it."""
+    word = leaf[0]
+    if word in ("worth", "none"):
+        told = given(task, cuts, box, leaf[1])
+        if told is None:
+            return False
+        if word == "none":
+            return not any(told[0]) and told[1] > 0
+        return worth is not None and told[0] == list(task.goal) and told[1] > worth - 1
+    wish = task.wishes[leaf[1]]
+    kind = wish[0]
+    if word in ("crowd", "ring", "load", "full") and list(leaf[2]) != sorted(set(leaf[2])):
+        return False
+    if word == "crowd":
+        _, _, places, a, b = leaf
+        return (kind in ("unlike", "round") and set(places) <= set(wish[1]) and a <= b
+                and all(a <= box[at][0] and box[at][1] <= b for at in places) and len(places) > b - a + 1)
+    if word == "out":
+        return kind == "table" and not any(
+            all(box[at][0] <= item <= box[at][1] for at, item in zip(wish[1], lot)) for lot in wish[2])
+    if word == "shut":
+        return kind == "either" and all(
+            sum(max(times * low, times * high) for times, (low, high) in zip(item[1], box)) < item[3]
+            for item in wish[1])
+    if word == "ring":
+        inner = {wish[1].index(at) for at in leaf[2]} if kind == "round" and set(leaf[2]) <= set(wish[1]) else set()
+        return 0 < len(inner) < len(wish[1]) and all(
+            index in inner for at in leaf[2] for index in range(len(wish[1])) if box[at][0] <= index <= box[at][1])
+    if word == "broken":
+        named = [at for at in range(len(box)) if at in names_in(wish)]
+        return all(box[at][0] == box[at][1] for at in named) and not holds(wish, tuple(low for low, _ in box))
+    return jobs_leaf_is_right(wish, box, leaf)
+
+
+def names_in(wish):
+    """The unknowns that a wish names."""
+    if wish[0] == "sum":
+        return {at for at, times in enumerate(wish[1]) if times}
+    if wish[0] == "either":
+        return set().union(*[names_in(item) for item in wish[1]])
+    return {job[0] for job in wish[1]} if wish[0] in ("bench", "room") else set(wish[1])
+
+
+def jobs_leaf_is_right(wish, box, leaf):
+    """Whether a late, load or full leaf holds."""
+    if wish[0] not in ("bench", "room") or (leaf[0] == "full" and wish[0] == "bench"):
+        return False
+    jobs, most = triples(wish), size(wish)
+    low, high = [box[job[0]][0] for job in jobs], [box[job[0]][1] for job in jobs]
+    if leaf[0] == "late":
+        _, _, i, j = leaf
+        return (0 <= i < j < len(jobs) and jobs[i][2] + jobs[j][2] > most
+                and low[i] + jobs[i][1] > high[j] and low[j] + jobs[j][1] > high[i])
+    lot = leaf[2]
+    if not set(lot) <= set(range(len(jobs))):
+        return False
+    if leaf[0] == "load":
+        _, _, _, a, b = leaf
+        return (a <= b and all(low[i] >= a and high[i] + jobs[i][1] <= b for i in lot)
+                and sum(jobs[i][1] * jobs[i][2] for i in lot) > most * (b - a))
+    return (all(high[i] <= leaf[3] < low[i] + jobs[i][1] for i in lot)
+            and sum(jobs[i][2] for i in lot) > most)
+
+
+def left_out(box, draw):
+    """The box that a draw leaves out and the one that it leaves; AssertionError if its end is none."""
+    at, side, end = draw[:3]
+    low, high = box[at]
+    if side == 0:
+        assert low < end <= high, (box, draw)
+        return changed(box, at, (low, end - 1)), changed(box, at, (end, high))
+    assert side == 1 and low <= end < high, (box, draw)
+    return changed(box, at, (end + 1, high)), changed(box, at, (low, end))
+
+
+def after_draws(task, cuts, box, draws, worth=None):
+    """The box that draws leave; AssertionError if one is wrong."""
+    for draw in draws:
+        out, box = left_out(box, draw)
+        assert len(draw) == 4 and leaf_is_right(task, cuts, out, draw[3], worth), (task.wishes, out, draw)
+    return box
+
+
+def hull(points):
+    """The least box of some points."""
+    return tuple((min(values), max(values)) for values in zip(*points))

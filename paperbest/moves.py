@@ -1,0 +1,95 @@
+"""Moves between points of a box, and descents by moves to better points."""
+
+from paperbest.lacks import best_value, lack
+from paperbest.points import in_box, worth
+from paperbest.wishes import named_by
+
+
+def pair_moves(box, point):
+    """The lot of the points that the moves of two unknowns lead to."""
+    found = {}
+    for later in range(len(point)):
+        for at in range(later):
+            for values in _pair_values(point[at], point[later]):
+                other = with_two(point, at, later, values)
+                if other != point and in_box(other, box):
+                    found[other] = True
+    return tuple(sorted(found))
+
+
+def _pair_values(one, other):
+    """The values that two unknowns can get together: those exchanged, and each moved by 1."""
+    return [(other, one)] + [(one + up, other + down) for up in (-1, 1) for down in (-1, 1)]
+
+
+def with_two(point, at, later, values):
+    """The point with other values at two places, the first one ahead of the second."""
+    return point[:at] + values[:1] + point[at + 1:later] + values[1:] + point[later + 1:]
+
+
+def is_still(task, box, point):
+    """Whether no move leads to a better point."""
+    return _better_point(task, box, point) is None
+
+
+def descent(task, box, point, *, most=200):
+    """The point, and better ones to which moves lead one after another."""
+    found = [point]
+    while len(found) <= most:
+        better = _better_point(task, box, found[-1])
+        if better is None:
+            break
+        found.append(better)
+    return tuple(found)
+
+
+def _better_point(task, box, point):
+    """Some better point to which a move leads, or None."""
+    lacks = [lack(wish, point) for wish in task.wishes]
+    naming = [[] for _ in point]
+    for k, wish in enumerate(task.wishes):
+        for place in named_by(wish):
+            naming[place].append(k)
+    better = _best_single(task, box, point, lacks, naming)
+    return _first_pair(task, box, point, lacks, naming) if better is None else better
+
+
+def _gain(task, lacks, numbers, point, other):
+    """By how much miss and worth change at another point, told by the wishes that may change; None if not better."""
+    most = sum([lacks[k] for k in numbers])
+    now = 0
+    for k in numbers:
+        now += lack(task.wishes[k], other)
+        # What is lacked already cannot become less by further wishes.
+        if now > most:
+            return None
+    change = (now - most, worth(task.goal, other) - worth(task.goal, point))
+    return change if change < (0, 0) else None
+
+
+def _best_single(task, box, point, lacks, naming):
+    """The best point to which a move of one unknown leads, None if it is not better."""
+    best, least = None, None
+    for at in range(len(point)):
+        other = point[:at] + (best_value(task, box, point, at),) + point[at + 1:]
+        change = _gain(task, lacks, naming[at], point, other)
+        if change is not None and (least is None or change < least):
+            best, least = other, change
+    return best
+
+
+def _first_pair(task, box, point, lacks, naming):
+    """The first better point to which a move of two unknowns leads, or None."""
+    for later in range(len(point)):
+        for at in range(later):
+            numbers = sorted(set(naming[at] + naming[later]))
+            for values in _pair_values(point[at], point[later]):
+                other = with_two(point, at, later, values)
+                if other != point and _within(box, at, later, values):
+                    if _gain(task, lacks, numbers, point, other) is not None:
+                        return other
+    return None
+
+
+def _within(box, at, later, values):
+    return box[at][0] <= values[0] <= box[at][1] and box[later][0] <= values[1] <= box[later][1]
