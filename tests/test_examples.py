@@ -82,7 +82,56 @@ PRICES = '''
     [(0, 1, 1)]
 '''
 
-EXAMPLES = (ROWS, TASKS, COUNTING, STEPS, SIMPLEX, LACKS, BENCHES, READER, PRICES)
+PAPERS = '''
+    >>> from paperbest.papers import Best, Paper, cut_row
+    >>> from paperbest.tasks import Task
+    >>> task, half = Task((("x", 0, 9), ("y", 0, 9)), (("sum", (2, 2), False, 5), ("unlike", (0, 1))), (3, 2)), ((("row", 0), (1, 2)),)
+    >>> cut_row(task, (), half), cut_row(task, (), ((("row", 0), (1, 3)),)) is None
+    (((1, 1), False, 3), True)
+'''
+
+CROWDS = '''
+    >>> from paperbest.crowds import crowd_box, crowd_draws, crowd_leaf
+    >>> from paperbest.tasks import Task
+    >>> unknowns = (("x", 0, 5), ("y", 0, 5), ("z", 0, 5))
+    >>> task = Task(unknowns, (("unlike", (0, 1, 2)), ("table", (2, 0), ((1, 4), (3, 0), (5, 5)))), (2, 1, 2))
+    >>> crowd_leaf(task, 0, ((1, 2), (1, 2), (2, 2))), crowd_box(task, 0, ((1, 2), (1, 2), (1, 5)))
+    (('crowd', 0, (0, 1, 2), 1, 2), ((1, 2), (1, 2), (3, 5)))
+    >>> crowd_draws(task, 0, ((1, 2), (1, 2), (1, 5)))
+    ((2, 0, 3, ('crowd', 0, (0, 1, 2), 1, 2)),)
+    >>> from paperbest.cheapest import cheapest_unlike, is_cheapest
+    >>> cheapest_unlike(task, 0, ((0, 1), (0, 5), (0, 1)))[0][1], is_cheapest(task, 0, ((0, 1), (0, 5), (0, 1)), ((0, 2, 1), ((0, 3), (1, 1))))
+    (2, True)
+'''
+
+ROUNDING = '''
+    >>> from paperbest.reader import read_task
+    >>> from paperbest.rounding import best_threshold, threshold_points
+    >>> task = read_task("least 2 x - y\\nx - y >= -1\\nunknown x 0 4\\nunknown y 0 4")
+    >>> best_threshold(task, ((1, 2), (4, 3))), threshold_points(((1, 2), (4, 3)), (1, 1))
+    ((0, 1), (((1, 3), (1, 2)), ((1, 2), (1, 1)), ((1, 1), (0, 1))))
+'''
+
+EITHERS = '''
+    >>> from paperbest.eithers import either_box, either_draws, open_sums
+    >>> from paperbest.tasks import Task
+    >>> sums = (("sum", (2, 0), False, 5), ("sum", (1, 1), False, 9), ("sum", (-1, 0), False, 2))
+    >>> task = Task((("x", 0, 4), ("y", 0, 6)), (("either", sums), ("sum", (1, 0), False, 0)), (1, 1))
+    >>> open_sums(task, 0, ((0, 4), (0, 6))), either_box(task, 0, ((0, 4), (0, 6))), either_draws(task, 0, ((0, 4), (0, 3)))
+    ((0, 1), ((3, 4), (0, 6)), ((0, 0, 3, ('shut', 0)),))
+'''
+
+RINGS = '''
+    >>> from paperbest.tasks import Task
+    >>> from paperbest.rings import next_places, round_draws, round_leaf, round_rests
+    >>> task = Task((("a", 0, 2), ("b", 0, 2), ("c", 0, 2)), (("round", (0, 1, 2)),), (0, 0, 0))
+    >>> next_places(task, 0, ((1, 9), (0, 2), (0, 2)), 0), round_leaf(task, 0, ((1, 1), (0, 0), (0, 2)))
+    ((1, 2), ('ring', 0, (0, 1)))
+    >>> round_draws(task, 0, ((0, 0), (0, 2), (0, 2)))[0], round_rests(task, 0, ((1, 1), (2, 2), (0, 0)))
+    ('leaf', True)
+'''
+
+EXAMPLES = (ROWS, TASKS, COUNTING, STEPS, SIMPLEX, LACKS, BENCHES, READER, PRICES, PAPERS, CROWDS, ROUNDING, EITHERS, RINGS)
 
 
 class ExamplesTest(unittest.TestCase):
