@@ -43,10 +43,11 @@ def crowd_point(task, number, box):
     waiting = _by_highs(places, box)
     value = None
     while waiting:
-        least = min([box[place][0] for place in waiting])
+        least = min([box[other][0] for other in waiting])
         value = least if value is None else max(value + 1, least)
         # Of those that may have this value, the one that can wait least long gets it.
-        place = [place for place in waiting if box[place][0] <= value][0]
+        ready = [other for other in waiting if box[other][0] <= value]
+        place = ready[0]
         if box[place][1] < value:
             return None
         values[place] = value

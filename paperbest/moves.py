@@ -29,65 +29,60 @@ def with_two(point, at, later, values):
 
 def is_still(task, box, point):
     """Whether no move leads to a better point."""
-    return _better_point(task, box, point) is None
+    return _better_point(task, box, point, 0) is None
 
 
 def descent(task, box, point, *, most=200):
     """The point, and better ones to which moves lead one after another."""
     found = [point]
+    first = 0
     while len(found) <= most:
-        better = _better_point(task, box, found[-1])
+        better = _better_point(task, box, found[-1], first)
         if better is None:
             break
-        found.append(better)
+        found.append(better[0])
+        # Those behind the unknown that moved have waited longest.
+        first = better[1] + 1
     return tuple(found)
 
 
-def _better_point(task, box, point):
-    """Some better point to which a move leads, or None."""
+def _better_point(task, box, point, first):
+    """Some better point to which a move leads, and an unknown that moved, from the first one on; or None."""
     lacks = [lack(wish, point) for wish in task.wishes]
     naming = [[] for _ in point]
     for k, wish in enumerate(task.wishes):
         for place in named_by(wish):
             naming[place].append(k)
-    better = _best_single(task, box, point, lacks, naming)
-    return _first_pair(task, box, point, lacks, naming) if better is None else better
+    for step in range(len(point)):
+        at = (first + step) % len(point)
+        other = point[:at] + (best_value(task, box, point, at),) + point[at + 1:]
+        if _is_better(task, lacks, naming[at], point, other):
+            return (other, at)
+    return _first_pair(task, box, point, lacks, naming)
 
 
-def _gain(task, lacks, numbers, point, other):
-    """By how much miss and worth change at another point, told by the wishes that may change; None if not better."""
+def _is_better(task, lacks, numbers, point, other):
+    """Whether another point is better, told by the wishes whose lacks may differ."""
     most = sum([lacks[k] for k in numbers])
     now = 0
     for k in numbers:
         now += lack(task.wishes[k], other)
         # What is lacked already cannot become less by further wishes.
         if now > most:
-            return None
-    change = (now - most, worth(task.goal, other) - worth(task.goal, point))
-    return change if change < (0, 0) else None
-
-
-def _best_single(task, box, point, lacks, naming):
-    """The best point to which a move of one unknown leads, None if it is not better."""
-    best, least = None, None
-    for at in range(len(point)):
-        other = point[:at] + (best_value(task, box, point, at),) + point[at + 1:]
-        change = _gain(task, lacks, naming[at], point, other)
-        if change is not None and (least is None or change < least):
-            best, least = other, change
-    return best
+            return False
+    return now < most or worth(task.goal, other) < worth(task.goal, point)
 
 
 def _first_pair(task, box, point, lacks, naming):
-    """The first better point to which a move of two unknowns leads, or None."""
+    """The first better point to which a move of two unknowns leads, and one of them; or None."""
     for later in range(len(point)):
         for at in range(later):
             numbers = sorted(set(naming[at] + naming[later]))
             for values in _pair_values(point[at], point[later]):
                 other = with_two(point, at, later, values)
                 if other != point and _within(box, at, later, values):
-                    if _gain(task, lacks, numbers, point, other) is not None:
-                        return other
+                    if _is_better(task, lacks, numbers, point, other):
+                        return (other, later)
     return None
 
 

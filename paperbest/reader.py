@@ -21,7 +21,8 @@ def completed(text):
     """Some text of a task that begins with a text."""
     source = Source(text, None, True)
     _take_task(source)
-    return " ".join([text] + source.completion())
+    added = "".join([" " + mark for mark in source.completion()])
+    return text + added.replace(" \n ", "\n")
 
 
 def _take_task(source):

@@ -400,6 +400,25 @@ class CodeTest(unittest.TestCase):
                           and isinstance(part.ctx, ast.Store)}
             self.assertEqual(methods & attributes, set(), (name, node.name))
 
+    def test_names_of_attributes(self):
+        barred = set(("items keys values pop update append clear extend insert remove reverse setdefault sort args encode "
+                      "decode hex fromhex format format_map mro").split())
+        assigned = {node.attr for _, node, _ in nodes() if isinstance(node, ast.Attribute) and isinstance(node.ctx, ast.Store)}
+        self.assertEqual(assigned & barred, set())
+        properties = {node.name for _, node, _ in functions() if node.decorator_list}
+        self.assertEqual(assigned & properties, set())
+        self.assertEqual(OWN_METHODS & (METHODS | barred), set())
+        for _, node, _ in nodes():
+            if isinstance(node, ast.Attribute) and isinstance(node.ctx, ast.Load):
+                self.assertIn(node.attr, assigned | properties | OWN_METHODS | METHODS)
+
+    def test_combinations(self):
+        for name, node, above in nodes():
+            if is_call(node, LIBRARY["itertools"]):
+                parent = above[node]
+                self.assertTrue(isinstance(parent, (ast.For, ast.comprehension)) and parent.iter is node, (name, node.lineno))
+                self.assertTrue(is_call(node.args[0], {"list"}), (name, node.lineno))
+
 
 class InterfaceTest(unittest.TestCase):
     def test_names_are_defined_where_they_are_listed(self):
