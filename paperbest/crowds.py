@@ -60,11 +60,12 @@ def full_stretches(task, number, box):
     places = checked_wish(task, number, ("unlike",))[1]
     if crowd_of(number, places, box) is not None:
         raise Refused("shut")
-    return _full_stretches(places, box)
+    return stretches_of(places, box)
 
 
-def _full_stretches(places, box):
-    """Without a crowd, a full stretch goes from a low to a high end of unknowns within it."""
+def stretches_of(places, box):
+    """The lot of the stretches that some unknowns, which have no crowd, make full."""
+    # Without a crowd, a full stretch goes from a low to a high end of unknowns within it.
     full = {}
     ordered = _by_highs(places, box)
     for first in sorted(set([box[place][0] for place in places])):
@@ -83,7 +84,7 @@ def crowd_box(task, number, box):
     places = checked_wish(task, number, ("unlike",))[1]
     if crowd_of(number, places, box) is not None:
         return None
-    full = _full_stretches(places, box)
+    full = stretches_of(places, box)
     pairs = list(box)
     for place in places:
         below, above = _stretch_at(full, box[place], 0), _stretch_at(full, box[place], 1)
@@ -109,7 +110,7 @@ def crowd_draws(task, number, box):
     crowd = crowd_of(number, places, box)
     if crowd is not None:
         return ("leaf", crowd)
-    full = _full_stretches(places, box)
+    full = stretches_of(places, box)
     draws = []
     for place in places:
         for side in (0, 1):

@@ -147,15 +147,21 @@ LEAF_KINDS = {
 
 def draw_holds(task, cuts, box, value, worth):
     """Whether any value is a draw whose leaf holds over what it leaves out."""
+    out = box_left_out(box, value)
+    return out is not None and leaf_holds(task, cuts, out, value[3], worth)
+
+
+def box_left_out(box, value):
+    """The box that any value leaves out if it is a draw, whatever its last item is; None if it is none."""
     if not isinstance(value, tuple) or len(value) != 4:
-        return False
-    at, side, end, leaf = value
+        return None
+    at, side, end, _ = value
     if not is_integers((at, side, end), 3) or not 0 <= at < len(box) or side not in (0, 1):
-        return False
+        return None
     low, high = box[at]
     if side == 0:
-        return low < end <= high and leaf_holds(task, cuts, with_pair(box, at, (low, end - 1)), leaf, worth)
-    return low <= end < high and leaf_holds(task, cuts, with_pair(box, at, (end + 1, high)), leaf, worth)
+        return with_pair(box, at, (low, end - 1)) if low < end <= high else None
+    return with_pair(box, at, (end + 1, high)) if low <= end < high else None
 
 
 def with_pair(box, at, pair):

@@ -69,7 +69,7 @@ def _end_goal(many, at, side):
 
 def _exact_draw(task, tableau, goal, at, side):
     """The draw to the least or greatest fraction of an unknown, None if this is its end already."""
-    multipliers = with_cuts(task, _quickly_best(tableau, goal))
+    multipliers = with_cuts(task, quickly_best(tableau, goal))
     value = tableau.value(at)
     end = ceiling_of(value) if side == 0 else floor_of(value)
     if whole(end) == tableau.ends(at)[side]:
@@ -79,7 +79,7 @@ def _exact_draw(task, tableau, goal, at, side):
     return (at, side, end, ("none", joined_multipliers(multipliers, other, whole(1))))
 
 
-def _quickly_best(tableau, goal):
+def quickly_best(tableau, goal):
     """Take the steepest steps first, which is quick but might not end."""
     for _ in range(QUICK_STEPS * tableau.places):
         gain = _steepest_gain(tableau, goal)

@@ -88,6 +88,10 @@ PAPERS = '''
     >>> task, half = Task((("x", 0, 9), ("y", 0, 9)), (("sum", (2, 2), False, 5), ("unlike", (0, 1))), (3, 2)), ((("row", 0), (1, 2)),)
     >>> cut_row(task, (), half), cut_row(task, (), ((("row", 0), (1, 3)),)) is None
     (((1, 1), False, 3), True)
+    >>> from paperbest.checker import first_fault, is_answer
+    >>> leaf = ("worth", ((("cut", 0), (2, 1)), (("low", 0), (1, 1))))
+    >>> is_answer(task, Best((0, 3), 6, Paper((half,), leaf))), first_fault(task, Best((1, 2), 7, Paper((half,), leaf)))
+    (True, ('node', 0))
 '''
 
 CROWDS = '''
@@ -129,9 +133,38 @@ RINGS = '''
     ((1, 2), ('ring', 0, (0, 1)))
     >>> round_draws(task, 0, ((0, 0), (0, 2), (0, 2)))[0], round_rests(task, 0, ((1, 1), (2, 2), (0, 0)))
     ('leaf', True)
+    >>> from paperbest.tours import round_answer, round_count
+    >>> round_answer(task, 0, ((0, 1), (0, 2), (0, 1))), round_answer(task, 0, ((0, 1), (0, 2), (1, 2)))[0]
+    (('point', (1, 2, 0)), 'tree')
+    >>> round_count(task, 0, ((0, 2), (0, 2), (0, 2))), round_count(task, 0, ((1, 9), (-4, 2), (0, 0)))
+    (2, 1)
 '''
 
-EXAMPLES = (ROWS, TASKS, COUNTING, STEPS, SIMPLEX, LACKS, BENCHES, READER, PRICES, PAPERS, CROWDS, ROUNDING, EITHERS, RINGS)
+CUTS = '''
+    >>> from paperbest.cuts import cut_of, half_cut
+    >>> from paperbest.tasks import Task
+    >>> rows = (("sum", (2, 2), False, 5), ("unlike", (0, 1)), ("sum", (4, -1), False, 1))
+    >>> task = Task((("x", 0, 9), ("y", 0, 9)), rows, (3, 2))
+    >>> cut_of(task, (), {("row", 0): (1, 2), ("high", 0): (-2, 1)})
+    (((('row', 0), (1, 2)),), ((1, 1), False, 3))
+    >>> half_cut(task, (), ((5, 4), (5, 4)), (("row", 0),))
+    (((('row', 0), (1, 2)),), ((1, 1), False, 3))
+    >>> from paperbest.rounds import by_cuts, most_cuts, next_cut
+    >>> next_cut(task, ())[2:], most_cuts(task), by_cuts(Task(task.unknowns, rows[:1] + rows[2:], (3, 2))).point
+    ((((1, 0), False, 1), (6, 0, 0)), 4600, (1, 2))
+'''
+
+DRAWING = '''
+    >>> from paperbest.drawing import drawn
+    >>> from paperbest.tasks import Task
+    >>> wishes = (("sum", (2, -3), False, 1), ("sum", (-1, 1), False, -2))
+    >>> pair = Task((("x", 0, 9), ("y", 0, 3)), wishes, (1, 0))
+    >>> drawn(pair, ((0, 9), (0, 3)), passes=9)[1]
+    ((1, 5), (0, 3))
+'''
+
+EXAMPLES = (ROWS, TASKS, COUNTING, STEPS, SIMPLEX, LACKS, BENCHES, READER, PRICES, PAPERS, CROWDS, ROUNDING, EITHERS, RINGS,
+            CUTS, DRAWING)
 
 
 class ExamplesTest(unittest.TestCase):

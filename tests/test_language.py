@@ -86,7 +86,16 @@ INTERFACE = {
     "rounding": "free_ways rounded_by_signs nearest_point turns_of rounded_at threshold_points best_threshold",
     "showing": "shown is_shown",
     "answertexts": "show_answer read_answer",
-    "cheapest": "cheapest_unlike is_cheapest"}
+    "cheapest": "cheapest_unlike is_cheapest",
+    "checker": "is_answer first_fault tree_fault",
+    "cuts": "fraction_parts cut_of depth_of half_cut half_cuts form_numbers rounded_sums",
+    "tables": "lots_left table_left table_point table_box table_draws",
+    "tours": "round_count round_answer round_shaves",
+    "drawing": "wish_draws drawn rests rest_passes shaved",
+    "lost": "value_point value_leaf lost_values",
+    "reasons": "is_draw is_draws wishes_behind cuts_behind ends_behind needed_draws",
+    "rounds": "rounds least_spot next_cut most_cuts by_cuts",
+    "shorter": "shorter_answer"}
 
 CLASS_PARTS = {
     ("tableau", "Tableau"): "many places basis columns ends value point entry row_at exchange move put_end mark back "
@@ -129,7 +138,20 @@ PARAMETERS = {
     "rounded_by_signs": "task start", "nearest_point": "start", "turns_of": "task",
     "rounded_at": "start turns threshold", "threshold_points": "start turns", "best_threshold": "task start",
     "shown": "wish point", "is_shown": "wish point value", "show_answer": "task answer",
-    "read_answer": "task text", "cheapest_unlike": "task number box", "is_cheapest": "task number box value"}
+    "read_answer": "task text", "cheapest_unlike": "task number box", "is_cheapest": "task number box value",
+    "is_answer": "task value", "first_fault": "task value", "tree_fault": "task cuts box tree least",
+    "fraction_parts": "numbers", "cut_of": "task cuts numbers", "depth_of": "row spot",
+    "half_cut": "task cuts spot some", "half_cuts": "task cuts spot", "form_numbers": "task cuts tableau form",
+    "rounded_sums": "task cuts tableau", "lots_left": "task number box", "table_left": "task number box",
+    "table_point": "task number box", "table_box": "task number box", "table_draws": "task number box",
+    "round_count": "task number box", "round_answer": "task number box", "round_shaves": "task number box",
+    "wish_draws": "task k box", "drawn": "task box passes cuts worth", "rests": "task box cuts worth",
+    "rest_passes": "box", "shaved": "task box passes cuts worth", "value_point": "task number box place value",
+    "value_leaf": "task number box place value", "lost_values": "task number box place",
+    "is_draw": "task cuts box value worth", "is_draws": "task cuts box other value worth", "wishes_behind": "tree",
+    "cuts_behind": "tree", "ends_behind": "task tree", "needed_draws": "task draws ends", "rounds": "task most",
+    "least_spot": "task cuts", "next_cut": "task cuts", "most_cuts": "task", "by_cuts": "task most",
+    "shorter_answer": "task answer"}
 
 
 def nodes():

@@ -1,6 +1,7 @@
 """What the tests share: odd values, made tasks, and the plain meaning of wishes, written once more."""
 
 import itertools
+import math
 import random
 from fractions import Fraction
 
@@ -279,3 +280,101 @@ def after_draws(task, cuts, box, draws, worth=None):
 def hull(points):
     """The least box of some points."""
     return tuple((min(values), max(values)) for values in zip(*points))
+
+
+def right_tree(rng, task, box, worth=None):
+    """A tree, made by chance, in which no point of a box keeps a task (with a worth: none of a lesser one).
+
+    AssertionError if some point does.
+    """
+    wide = [at for at, (low, high) in enumerate(box) if low < high]
+    leaves = some_leaves(task, box, worth)
+    if leaves and (not wide or rng.random() < 0.7):
+        return rng.choice(leaves)
+    assert wide, (task.wishes, box)
+    at = rng.choice(wide)
+    k = rng.randint(box[at][0], box[at][1] - 1)
+    sides = [right_tree(rng, task, changed(box, at, pair), worth) for pair in ((box[at][0], k), (k + 1, box[at][1]))]
+    return ("split", at, k, sides[0], sides[1])
+
+
+def some_leaves(task, box, worth=None):
+    """Leaves that hold over a box: of single sums, of the goal, and of wishes by themselves."""
+    leaves = [("out", k) for k, wish in enumerate(task.wishes) if wish[0] == "table"]
+    leaves += [("shut", k) for k, wish in enumerate(task.wishes) if wish[0] == "either"]
+    leaves += [("broken", k) for k in range(len(task.wishes))]
+    for k, wish in enumerate(task.wishes):
+        if wish[0] == "sum":
+            leaves += [("none", ends_against(wish[1], ("row", k), sign)) for sign in ((1, -1) if wish[2] else (1,))]
+        if wish[0] in ("unlike", "round"):
+            for places in itertools.combinations(wish[1], 2):
+                leaves.append(("crowd", k, places, min(box[at][0] for at in places), max(box[at][1] for at in places)))
+        if wish[0] in ("bench", "room"):
+            leaves += [("late", k, i, j) for i, j in itertools.combinations(range(len(wish[1])), 2)]
+    if worth is not None:
+        leaves.append(("worth", ends_against([-times for times in task.goal], None, 1)))
+    return [leaf for leaf in leaves if leaf_is_right(task, (), box, leaf, worth)]
+
+
+def ends_against(coefficients, key, sign):
+    """Multipliers of a row, or of its opposite, and of the ends at which it is greatest."""
+    pairs = [(key, (sign, 1))] if key else []
+    for at, times in enumerate(coefficients):
+        if times:
+            pairs.append((("high" if sign * times > 0 else "low", at), (abs(times), 1)))
+    return tuple(sorted(pairs))
+
+
+def nodes_of(box, tree):
+    """The pairs of box and node of a tree in their order; the splits must be right."""
+    found, waiting = [], [(box, tree)]
+    while waiting:
+        inner, node = waiting.pop()
+        found.append((inner, node))
+        if node[0] == "split":
+            _, at, k, lower, upper = node
+            assert inner[at][0] <= k < inner[at][1], (inner, node[:3])
+            waiting.append((changed(inner, at, (k + 1, inner[at][1])), upper))
+            waiting.append((changed(inner, at, (inner[at][0], k)), lower))
+    return found
+
+
+def tree_is_right(task, cuts, box, tree, worth=None):
+    """Whether all leaves of a tree are right; AssertionError if a split is not."""
+    return all(leaf_is_right(task, cuts, inner, node, worth) for inner, node in nodes_of(box, tree) if node[0] != "split")
+
+
+def plain_cut_rows(task, cuts):
+    """The rows of the cuts of a paper; AssertionError if one is none."""
+    rows, box = [], tuple(unknown[1:] for unknown in task.unknowns)
+    for multipliers in cuts:
+        told = given(task, rows, box, multipliers)
+        assert told is not None and any(told[0]) and all(item.denominator == 1 for item in told[0]), multipliers
+        rows.append((tuple(int(item) for item in told[0]), False, math.ceil(told[1])))
+    return rows
+
+
+def answer_is_right(task, answer):
+    """Whether an answer is a right Best or Nothing, as point 30 says it."""
+    box = tuple(unknown[1:] for unknown in task.unknowns)
+    rows = plain_cut_rows(task, answer.paper.cuts)
+    if hasattr(answer, "point"):
+        return (holds_all(task, answer.point) and answer.worth == total(task.goal, answer.point)
+                and tree_is_right(task, rows, box, answer.paper.tree, answer.worth))
+    return tree_is_right(task, rows, box, answer.paper.tree)
+
+
+def kept_points_of(task):
+    """All points that keep a task, ascending, by trying."""
+    return [point for point in points_of([unknown[1:] for unknown in task.unknowns]) if holds_all(task, point)]
+
+
+def some_task(rng, many=3, kinds=KINDS, most=3, width=4, low=-2, goal=3):
+    """Some task of wishes of some kinds with narrow ranges."""
+    box = made_box(rng, many, low, 2, width)
+    unknowns = tuple((name, *pair) for name, pair in zip(some_names(many), box))
+    # One unknown alone is unlike nothing, and nothing follows it.
+    kinds = kinds if many > 1 else [kind for kind in kinds if kind in ("sum", "table", "either")]
+    wishes = tuple(made_wish(rng, many, rng.choice(kinds)) for _ in range(rng.randint(0, most)))
+    from paperbest.tasks import Task
+    return Task(unknowns, wishes, tuple(rng.randint(-goal, goal) for _ in range(many)))
