@@ -163,8 +163,71 @@ DRAWING = '''
     ((1, 5), (0, 3))
 '''
 
+SOLVER = '''
+    >>> from paperbest.solver import answer_size, better_point, is_paper, most_leaves, solve
+    >>> from paperbest.tasks import Task
+    >>> sums = (("sum", (2, 2), False, 5), ("unlike", (0, 1)))
+    >>> task = Task((("x", 0, 3), ("y", 0, 3)), sums, (3, 2))
+    >>> answer = solve(task)
+    >>> answer.point, answer.worth, solve(task, cutting=0, passes=0).worth
+    ((0, 3), 6, 6)
+    >>> better_point(task, 7)[0], better_point(task, 6)[0], is_paper(task, answer.paper, 6), is_paper(task, answer.paper, 7)
+    ('point', 'paper', True, False)
+    >>> from paperbest.listings import all_best, is_listing_for, listed, next_best, ranked
+    >>> found = listed(task, 8)
+    >>> found.points, is_listing_for(task, found), all_best(task).points
+    (((0, 3), (1, 2), (2, 1)), True, ((0, 3),))
+    >>> next_best(task, 6).worth, ranked(task, many=3)[0]
+    (7, ((0, 3), (1, 2), (2, 1)))
+'''
+
+OVERVIEW = '''
+    >>> from paperbest.reader import read_task
+    >>> from paperbest.solver import solve
+    >>> answer = solve(read_task("least 3 x + 2 y\\n2 x + 2 y >= 5\\nunlike x y\\nunknown x 0 9\\nunknown y 0 9"))
+    >>> answer.worth, answer.point
+    (6, (0, 3))
+'''
+
+TREE = '''
+    >>> from paperbest.reader import read_task
+    >>> from paperbest.tree import TreeSearch, best_points, search
+    >>> task = read_task("least 3 x + 2 y\\n2 x + 2 y >= 5\\nunlike x y\\nunknown x 0 9\\nunknown y 0 9")
+    >>> TreeSearch(task, passes=0).bound(), search(task, deep=True).worth, best_points(task, 9)
+    (5, 6, ((0, 3),))
+'''
+
+LIVE = '''
+    >>> from paperbest.live import Live
+    >>> from paperbest.tasks import Task
+    >>> task = Task((("x", 0, 3), ("y", 0, 3)), (("sum", (1, 1), False, 4), ("unlike", (0, 1))), (2, 1))
+    >>> live = Live(task)
+    >>> live.answer().point, live.put(("sum", (0, -1), False, -2)), live.answer().worth
+    ((1, 3), 2, 7)
+    >>> live.undo(), live.changes(), live.answer().worth
+    (None, 0, 5)
+    >>> from paperbest.blame import all_blames, all_excuses, cheapest_excuse
+    >>> wishes = (("sum", (1, 0), False, 2), ("sum", (-1, 0), False, -1), ("unlike", (0, 1)), ("sum", (1, -1), True, 0))
+    >>> three = Task((("x", 0, 3), ("y", 0, 3)), wishes, (0, 0))
+    >>> all_blames(three), all_excuses(three)
+    (((0, 1), (2, 3)), ((0, 2), (0, 3), (1, 2), (1, 3)))
+    >>> cheapest_excuse(three, (5, 1, None, 2))
+    (3, (1, 3))
+'''
+
+CLAIMS = '''
+    >>> from paperbest.claims import follow_claim
+    >>> from paperbest.tasks import Task
+    >>> task = Task((("x", 0, 3), ("y", 0, 3)), (("sum", (1, -1), False, 1),), (1, 1))
+    >>> follow_claim(task, ("unlike", (0, 1)))[0], follow_claim(task, ("sum", (1, 0), False, 2))[0]
+    ('follows', 'apart')
+    >>> from paperbest.runs import run
+    >>> run("least x + y\\nx - y >= 1\\nunknown x 0 3\\nunknown y 0 3\\n: list 9\\n: put y >= 2\\n: try 3 1\\n: undo\\n: undo")
+    ('best 1\\n1 0', 'wishes 1', 'broken 1', 'changes 0', 'refused undo')
+'''
+
 EXAMPLES = (ROWS, TASKS, COUNTING, STEPS, SIMPLEX, LACKS, BENCHES, READER, PRICES, PAPERS, CROWDS, ROUNDING, EITHERS, RINGS,
-            CUTS, DRAWING)
+            CUTS, DRAWING, OVERVIEW, SOLVER, TREE, LIVE, CLAIMS)
 
 
 class ExamplesTest(unittest.TestCase):
