@@ -12,21 +12,21 @@ from paperbest.rings import round_draws
 from paperbest.rooms import room_draws
 from paperbest.tables import table_draws
 
-DRAWERS = {
-    "sum": sum_draws,
-    "unlike": crowd_draws,
-    "table": table_draws,
-    "either": either_draws,
-    "bench": bench_draws,
-    "room": room_draws,
-    "round": round_draws,
-}
-
 
 def wish_draws(task, k, box):
     """A leaf that wish k shows over a box, or draws."""
-    drawer = DRAWERS[task.wishes[k][0]]
-    return drawer(task, k, box)
+    kind = task.wishes[k][0]
+    if kind == "sum":
+        return sum_draws(task, k, box)
+    if kind == "unlike":
+        return crowd_draws(task, k, box)
+    if kind == "table":
+        return table_draws(task, k, box)
+    if kind == "either":
+        return either_draws(task, k, box)
+    if kind == "bench":
+        return bench_draws(task, k, box)
+    return room_draws(task, k, box) if kind == "room" else round_draws(task, k, box)
 
 
 def _check_passes(passes):

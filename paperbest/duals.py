@@ -41,21 +41,21 @@ def relaxed(task, cuts, box):
 
 def solved(tableau, goal):
     """Bring a tableau whose columns are the unknowns to a best point, as repaired does."""
-    second = second_goal(tableau.many)
+    second = _second_goal(tableau.many)
     for column, (times, other) in enumerate(zip(goal, second)):
         slope = times if times != 0 else other
         tableau.move(column, tableau.ends(column)[0 if slope > 0 else 1])
     return mended(tableau, goal)
 
 
-def second_goal(many):
+def _second_goal(many):
     """A goal that breaks ties: with unlike integers mends seldom leave everything as it was."""
     return tuple([1 + (at + 1) * (at + 3) * 7919 % 1009 for at in range(many)])
 
 
 def mended(tableau, goal):
     """Repair the place that is furthest beyond an end first, which is quick but might not end."""
-    second = second_goal(tableau.many)
+    second = _second_goal(tableau.many)
     for _ in range(WORST_MENDS * tableau.places):
         beyond = _worst_beyond(tableau)
         if beyond is None:

@@ -3,12 +3,12 @@
 from heapq import heappop, heappush
 
 from paperbest.drawing import drawn
+from paperbest.duals import relaxed
 from paperbest.nodes import boxes_around, point_count, settled_wish, split_place, whole_point
 from paperbest.numbers import ceiling_of
 from paperbest.papers import split_box
 from paperbest.plain import points_in
 from paperbest.points import keeps, worth
-from paperbest.relaxer import Relaxer
 from paperbest.tasks import box_of
 
 PASSES = 2
@@ -20,7 +20,7 @@ class Finder:
 
     def __init__(self, task, cuts=()):
         self.task = task
-        self._relaxer = Relaxer(task, cuts)
+        self._rows = cuts
         self._queue = []
         self._waiting = {}
         self._made = 0
@@ -63,6 +63,6 @@ class Finder:
             return
         if settled_wish(self.task, box) is not None:
             return
-        told = self._relaxer.told(box)
+        told = relaxed(self.task, self._rows, box)
         if told[0] == "best":
             self._put(ceiling_of(told[2]), (box, told[1]))

@@ -1,12 +1,12 @@
 """The trees of listings: each point that is looked for has a leaf of its own."""
 
 from paperbest.drawing import drawn
+from paperbest.duals import relaxed
 from paperbest.errors import Refused
 from paperbest.leaves import tree_after
 from paperbest.nodes import point_count, reaches, settled_wish, split_place, whole_point
 from paperbest.papers import split_box
 from paperbest.points import keeps
-from paperbest.relaxer import Relaxer
 from paperbest.tasks import box_of
 
 PASSES = 2
@@ -30,7 +30,7 @@ class Lister:
         self.points = []
         self._most = most
         self._bound = bound
-        self._relaxer = Relaxer(task, rows)
+        self._rows = rows
         self._pieces = []
         self._waiting = []
 
@@ -87,7 +87,7 @@ class Lister:
         if settled is not None:
             piece.leaf = ("broken", settled)
             return None
-        told = self._relaxer.told(box)
+        told = relaxed(self.task, self._rows, box)
         if told[0] == "none":
             piece.leaf = told
             return None

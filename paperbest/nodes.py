@@ -81,8 +81,9 @@ def split_place(task, box, point):
     best = None
     for at in named_by(task.wishes[number]):
         width = box[at][1] - box[at][0]
-        if width > 0 and (best is None or width < best[0]):
-            best = (width, at)
+        rank = (-abs(task.goal[at]), width)
+        if width > 0 and (best is None or rank < best[0]):
+            best = (rank, at)
     if best is None:
         raise Refused("settled")
     at = best[1]

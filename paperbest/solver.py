@@ -12,6 +12,7 @@ from paperbest.points import keeps
 from paperbest.reasons import SUM_WORDS, leaves_in
 from paperbest.rounding import nearest_point
 from paperbest.rounds import rounds
+from paperbest.rows import total_of
 from paperbest.tasks import box_of
 from paperbest.tree import TreeSearch, search
 
@@ -29,16 +30,20 @@ def solve(task, *, passes=2, cutting=2, guessing=20, halving=40):
 
 
 def _first_point(task, rows, guessing):
-    """Some point that keeps the task, found near the best fractions, or None."""
-    told = relaxed(task, rows, box_of(task))
+    """Some point that keeps the task, found near the best fractions or near 0, or None."""
+    box = box_of(task)
+    told = relaxed(task, rows, box)
     if told[0] == "none":
         return None
-    start = guess(task, box_of(task), told[1])
-    if start is None:
-        start = nearest_point(told[1])
-    # Moves to better points keep what is kept, and often mend what is not.
-    point = descent(task, box_of(task), start, most=guessing)[-1]
-    return point if keeps(task, point) else None
+    start = guess(task, box, told[1])
+    starts = (nearest_point(told[1]) if start is None else start, tuple([min(max(low, 0), high) for low, high in box]))
+    best = None
+    for point in starts:
+        # Moves to better points keep what is kept, and often mend what is not.
+        last = descent(task, box, point, most=guessing)[-1]
+        if keeps(task, last) and (best is None or total_of(task.goal, last) < total_of(task.goal, best)):
+            best = last
+    return best
 
 
 def answer_size(answer):

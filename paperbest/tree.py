@@ -3,6 +3,7 @@
 from heapq import heappop, heappush
 
 from paperbest.drawing import drawn
+from paperbest.duals import relaxed
 from paperbest.errors import InvalidNumber, Refused
 from paperbest.finder import Finder
 from paperbest.leaves import tree_after
@@ -10,7 +11,6 @@ from paperbest.nodes import halving_place, point_count, reaches, settled_wish, s
 from paperbest.numbers import ceiling_of, is_number
 from paperbest.papers import Best, Nothing, Paper, cut_rows, split_box
 from paperbest.points import check_point, keeps, worth
-from paperbest.relaxer import Relaxer
 from paperbest.tasks import box_of, with_goal
 
 
@@ -50,7 +50,7 @@ class TreeSearch:
         self.passes = passes
         self.made = 0
         self.depth = 0
-        self._relaxer = Relaxer(task, rows)
+        self._rows = rows
         self._nodes = []
         self._open = {}
         self._latest = []
@@ -135,7 +135,7 @@ class TreeSearch:
         if settled is not None:
             node.leaf = ("broken", settled)
             return number
-        told = self._relaxer.told(node.box)
+        told = relaxed(self.task, self._rows, node.box)
         if told[0] == "none":
             node.leaf = told
             return number

@@ -116,6 +116,26 @@ class TreesTest(unittest.TestCase):
             self.assertEqual(tree_fault(task, (), box_of(task), upward, None), 2 * many + 2)
             self.assertEqual(tree_fault(task, (), box_of(task), downward, None), many + 2)
 
+    def test_all_words(self):
+        wishes = (("sum", (1, 1, 1), False, 9), ("unlike", (0, 1, 2)), ("table", (1,), ((7,), (8,))), ("either", (
+            ("sum", (1, 0, 0), False, 9), ("sum", (0, 1, 0), False, 9))), ("bench", ((0, 5), (1, 5), (2, 5))), ("room", (
+                (0, 5, 2), (1, 5, 2), (2, 5, 2)), 3), ("round", (0, 1, 2)))
+        task = Task((("x", -9, 9), ("y", -9, 9), ("z", -9, 9)), wishes, (1, 1, 1))
+        narrow, one = ((1, 2), (1, 2), (1, 2)), ((1, 1), (1, 1), (2, 2))
+        ends = tuple((("high", at), (1, 1)) for at in range(3))
+        for leaf, box in (
+                (("worth", tuple((("low", at), (1, 1)) for at in range(3))), narrow), (("none", ends + ((("row", 0), (1, 1)),)), narrow),
+                (("crowd", 1, (0, 1, 2), 1, 2), narrow), (("out", 2), narrow), (("shut", 3), narrow), (("late", 4, 0, 1), narrow),
+                (("load", 4, (0, 1, 2), 1, 7), narrow), (("full", 5, (0, 1), 2), narrow), (("ring", 6, (1, 2)), narrow),
+                (("broken", 1), one), (("broken", 6), one)):
+            wide = ((-9, 9),) * 3
+            self.assertIsNone(tree_fault(task, (), box, leaf, 3), leaf)
+            self.assertEqual(tree_fault(task, (), wide, leaf, 3), 0)
+            at, (low, high) = 2, box[2]
+            tree = ("split", at, high, ("split", 0, 2, leaf, 7), leaf)
+            self.assertEqual(tree_fault(task, (), changed(box, 2, (low, high + 5)), tree, 3), 1)
+            self.assertEqual(tree_fault(task, (), box, leaf[:1] + (99,) + leaf[2:], 3), 0)
+
     def test_worths_and_cuts(self):
         box = box_of(TASK)
         cuts = (((1, 1), False, 3),)

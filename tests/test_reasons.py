@@ -7,8 +7,9 @@ from paperbest.reasons import cuts_behind, ends_behind, is_draw, is_draws, neede
 from paperbest.tasks import Task, box_of
 from tests.tools import (
     KINDS, Hostile, changed, generator, holds, kept_points_of, left_out, names_in, odd_values, points_of, right_tree,
-    some_leaves, some_task, total, tree_is_right)
+    some_leaves, some_names, some_task, total, tree_is_right)
 
+BIG = 10 ** 6
 TASK = Task((("x", 0, 9), ("y", 0, 9)), (("sum", (2, 2), False, 5), ("unlike", (0, 1))), (3, 2))
 
 
@@ -106,6 +107,16 @@ class DrawsTest(unittest.TestCase):
             self.assertIs(is_draw(TASK, (), box_of(TASK), value), False)
             self.assertIs(is_draws(TASK, (), box_of(TASK), ((1, 9), (0, 9)), value, 3), False)
             self.assertIs(is_draws(TASK, (), box_of(TASK), ((1, 9), (0, 9)), (value,), 3), False)
+
+    def test_limits(self):
+        size = 40
+        task = Task(tuple((name, -BIG, BIG) for name in some_names(size)), (("sum", (BIG,) * size, False, BIG * BIG * size - BIG * 7),), (0,) * size)
+        leaf = ("none", tuple((("high", at), (BIG, 1)) for at in range(size)) + ((("row", 0), (1, 1)),))
+        draws = tuple((at, 0, BIG - 7, leaf) for at in range(size))
+        self.assertTrue(is_draws(task, (), box_of(task), ((BIG - 7, BIG),) * size, draws))
+        self.assertFalse(is_draw(task, (), box_of(task), (0, 0, BIG - 6, leaf)))
+        self.assertEqual(ends_behind(task, leaf), tuple(("high", at) for at in range(size)))
+        self.assertEqual(needed_draws(task, draws, (("low", 3), ("low", 39), ("high", 5))), (draws[3], draws[39]))
 
     def test_cuts_and_worths(self):
         cuts = (((1, 1), False, 3),)

@@ -62,6 +62,12 @@ class SolveTest(unittest.TestCase):
         answer = solve(TASK)
         self.assertEqual((answer.point, answer.worth, solve(TASK, cutting=0, passes=0).worth), ((0, 3), 6, 6))
 
+    def test_goals_of_nothing(self):
+        rng = generator(872)
+        for _ in range(150):
+            task = some_task(rng, rng.randint(1, 4), KINDS, 5, 4, goal=0)
+            self.check(task, solve(task))
+
     def test_great_numbers(self):
         huge = 10 ** 30
         for some in ({word: huge} for word in NUMBERS if word != "cutting"):

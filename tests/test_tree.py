@@ -122,6 +122,13 @@ class StepsTest(unittest.TestCase):
                 for _ in range(8):
                     self.check(some_task(rng, 3, (kind,), 3, 4), (), None, deep, 2, 0)
 
+    def test_goals_of_nothing(self):
+        rng = generator(662)
+        for at in range(60):
+            task = some_task(rng, 3, KINDS, 4, 4, goal=0)
+            kept = kept_points_of(task)
+            self.check(task, (), rng.choice(kept) if kept and at % 3 == 0 else None, at % 2 == 0, 40, at % 3)
+
     def test_examples(self):
         self.assertEqual(TreeSearch(TASK, passes=0).bound(), 5)
         self.assertEqual(TreeSearch(TASK, cuts=(HALF,), passes=0).bound(), 6)
