@@ -177,6 +177,17 @@ PARAMETERS = {
     "worth_claim": "task least", "blame_claim": "task", "Session": "task", "run": "text"}
 
 
+# What is passed by keyword only, with its default value, if it has one.
+KEYWORDS = {
+    "descent": {"most": 200}, "drawn": {"passes": ..., "cuts": (), "worth": None}, "rests": {"cuts": (), "worth": None},
+    "shaved": {"passes": ..., "cuts": (), "worth": None}, "rounds": {"most": ...}, "by_cuts": {"most": None},
+    "TreeSearch": {"cuts": (), "known": None, "deep": False, "halving": 40, "passes": 2},
+    "search": {"cuts": (), "known": None, "deep": False, "halving": 40, "passes": 2}, "guess": {"reach": 0},
+    "nearest_kept": {"most": ...}, "best_near": {"most": ...},
+    "solve": {"passes": 2, "cutting": 2, "guessing": 20, "halving": 40}, "listed": {"most": 1000},
+    "all_best": {"most": 1000}, "ranked": {"many": ...}}
+
+
 def nodes():
     """All nodes of all files, with the name of the file and the nodes above them."""
     for name, tree in TREES.items():
@@ -231,8 +242,11 @@ class TextTest(unittest.TestCase):
                 self.assertTrue(docstring or isinstance(node, kinds), (name, node.lineno))
                 if isinstance(node, ast.Assign):
                     self.assertEqual([type(target) for target in node.targets], [ast.Name], (name, node.lineno))
+                    above = {part.name for part in tree.body[:at] if isinstance(part, ast.FunctionDef)}
                     for part in ast.walk(node.value):
                         self.assertNotIsInstance(part, (ast.Call, ast.BinOp, ast.ListComp), (name, node.lineno))
+                        # A table has functions of its own file, defined above it.
+                        self.assertIn(getattr(part, "id", None), above | {None}, (name, node.lineno))
 
 
 class NamesTest(unittest.TestCase):
@@ -489,6 +503,15 @@ class InterfaceTest(unittest.TestCase):
                 if word in PARAMETERS:
                     value = getattr(importlib.import_module("paperbest." + module), word)
                     self.assertEqual(" ".join(inspect.signature(value).parameters), PARAMETERS[word], word)
+
+    def test_keywords(self):
+        for module, words in INTERFACE.items():
+            for word in words.split():
+                value = getattr(importlib.import_module("paperbest." + module), word)
+                if not inspect.isclass(value) or word == "TreeSearch":
+                    told = {part.name: ... if part.default is part.empty else part.default
+                            for part in inspect.signature(value).parameters.values() if part.kind == part.KEYWORD_ONLY}
+                    self.assertEqual(told, KEYWORDS.get(word, {}), word)
 
 
 if __name__ == "__main__":
