@@ -53,14 +53,25 @@ def cheapest_unlike(task, number, box):
         costs[place] = {item: times * item for item in _candidates(times, box[place], len(places) + 1)}
     owners = {}
     prices = {}
-    shares = {}
-    for place in places:
-        if not _placed(place, costs, owners, prices, shares):
-            return None
+    if not assigned(costs, owners, prices):
+        return None
     values = [low for low, _ in box]
     for item, place in owners.items():
         values[place] = item
     return (tuple(values), tuple([(item, prices[item]) for item in sorted(prices) if prices[item] > 0]))
+
+
+def assigned(costs, owners, prices):
+    """Give each unknown one of its values, all unlike, so that they cost least; return whether there is a way.
+
+    The costs are dicts from values to costs, one for each unknown; the owners of values and the prices that show
+    that nothing costs less are put into dicts.
+    """
+    shares = {}
+    for place in costs:
+        if not _placed(place, costs, owners, prices, shares):
+            return False
+    return True
 
 
 def _candidates(times, pair, many):

@@ -76,6 +76,21 @@ class NearTest(unittest.TestCase):
         point, far = nearest_kept(task, box_of(task), (3, 3) + hint[2:], most=5)
         self.assertEqual(far, 1)
         self.assertTrue(holds_all(task, point))
+        unlike = Task(task.unknowns, (("unlike", tuple(range(40))),), (0,) * 40)
+        point, far = nearest_kept(unlike, box_of(unlike), (7,) * 40, most=BIG)
+        self.assertEqual(far, 400)
+        self.assertTrue(holds_all(unlike, point))
+
+    def test_jobs(self):
+        rng = generator(743)
+        for at in range(12):
+            many = 4
+            jobs = tuple((place, rng.randint(1, 4), rng.randint(1, 2)) for place in range(many))
+            wish = ("bench", tuple(job[:2] for job in jobs)) if at % 2 else ("room", jobs, 3)
+            wishes = (wish, made_wish(rng, many, rng.choice(KINDS))) if at % 3 == 0 else (wish,)
+            task = Task(tuple((name, 0, 8) for name in some_names(many)), wishes, tuple(rng.randint(-3, 3) for _ in range(many)))
+            self.check(task, box_of(task), (4,) * many, 99)
+            self.check(task, box_of(task), tuple(rng.randint(0, 8) for _ in range(many)), rng.randint(0, 9))
 
 
 class GuessTest(unittest.TestCase):
