@@ -79,10 +79,17 @@ class StepsTest(unittest.TestCase):
         left, many = steps.left(), 0
         self.assertEqual(steps.made, 1)
         while True:
+            before = steps.open_boxes()
             more = steps.step()
             if not more:
                 self.assertIs(more, False)
                 break
+            # One open box was taken; those made of it come behind all others.
+            stayed = [box for box in before if box in steps.open_boxes()]
+            self.assertEqual(len(stayed), len(before) - 1)
+            self.assertEqual(steps.open_boxes()[:len(stayed)], tuple(stayed))
+            if deep:
+                self.assertEqual(tuple(stayed), before[:-1])
             self.assertIs(more, True)
             many += 1
             now = self.check_state(steps, task, cuts, kept, halving)
