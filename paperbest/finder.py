@@ -4,7 +4,8 @@ from heapq import heappop, heappush
 
 from paperbest.drawing import drawn
 from paperbest.duals import relaxed
-from paperbest.nodes import boxes_around, point_count, settled_wish, split_place, whole_point
+from paperbest.likely import likely_place
+from paperbest.nodes import boxes_around, point_count, settled_wish, whole_point
 from paperbest.numbers import ceiling_of
 from paperbest.papers import split_box
 from paperbest.plain import points_in
@@ -39,7 +40,7 @@ class Finder:
                 for inner in boxes_around(box, point):
                     self._put_box(inner)
                 return point
-            at, k = split_place(self.task, box, spot)
+            at, k = likely_place(self.task, box, spot)
             for inner in split_box(box, at, k):
                 self._put_box(inner)
         return None

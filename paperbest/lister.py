@@ -4,7 +4,8 @@ from paperbest.drawing import drawn
 from paperbest.duals import relaxed
 from paperbest.errors import Refused
 from paperbest.leaves import tree_after
-from paperbest.nodes import point_count, reaches, settled_wish, split_place, whole_point
+from paperbest.likely import likely_place
+from paperbest.nodes import point_count, reaches, settled_wish, whole_point
 from paperbest.papers import split_box
 from paperbest.points import keeps
 from paperbest.tasks import box_of
@@ -70,7 +71,7 @@ class Lister:
                 return
             point = whole_point(spot)
             if point is None or not keeps(self.task, point):
-                at, k = split_place(self.task, box, spot)
+                at, k = likely_place(self.task, box, spot)
                 self._part(piece, box, at, k, None)
                 return
         if point_count(box) == 1:

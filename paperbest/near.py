@@ -3,19 +3,18 @@
 from heapq import heappop, heappush
 from itertools import combinations
 
-from paperbest.benches import jobs_of, size_of
 from paperbest.cheapest import assigned
 from paperbest.distances import Distances
 from paperbest.drawing import drawn
 from paperbest.duals import relaxed
-from paperbest.hours import peak, running
+from paperbest.likely import jobs_too_many
 from paperbest.nodes import first_broken, settled_wish, split_place, whole_point
 from paperbest.numbers import ceiling_of, whole
 from paperbest.papers import Best, split_box
 from paperbest.points import keeps
 from paperbest.rows import total_of
 from paperbest.tasks import with_goal
-from paperbest.tree import search
+from paperbest.tree import likely_search
 
 PASSES = 2
 
@@ -40,7 +39,7 @@ def best_near(task, box, hint, *, most):
     if near is None:
         return None
     distances = Distances(task, near, hint, most)
-    answer = search(with_goal(distances.wide, task.goal + (0,) * len(distances.ranges)))
+    answer = likely_search(with_goal(distances.wide, task.goal + (0,) * len(distances.ranges)))
     return answer.point[:len(hint)] if isinstance(answer, Best) else None
 
 
@@ -152,15 +151,10 @@ def _orders(wish, point):
 
     The jobs run at a moment at which they are too much together.
     """
-    jobs = jobs_of(wish)
-    busy = sorted(running(wish, point, peak(wish, point)[0]), key=lambda job: -jobs[job][2])
-    some = []
-    while sum([jobs[job][2] for job in some]) <= size_of(wish):
-        some.append(busy[len(some)])
     rows = []
-    for one, other in combinations(list(some), 2):
-        rows.append(_order(len(point), jobs[one], jobs[other]))
-        rows.append(_order(len(point), jobs[other], jobs[one]))
+    for one, other in combinations(list(jobs_too_many(wish, point)), 2):
+        rows.append(_order(len(point), one, other))
+        rows.append(_order(len(point), other, one))
     return rows
 
 

@@ -14,7 +14,7 @@ from paperbest.rounding import nearest_point
 from paperbest.rounds import rounds
 from paperbest.rows import total_of
 from paperbest.tasks import box_of
-from paperbest.tree import TreeSearch, search
+from paperbest.tree import TreeSearch, likely_search
 
 
 def solve(task, *, passes=2, cutting=2, guessing=20, halving=40):
@@ -26,7 +26,7 @@ def solve(task, *, passes=2, cutting=2, guessing=20, halving=40):
     if answer is not None:
         return answer
     known = _first_point(task, cut_rows(task, cuts), guessing)
-    return search(task, cuts=cuts, known=known, halving=halving, passes=passes)
+    return likely_search(task, cuts=cuts, known=known, halving=halving, passes=passes)
 
 
 def _first_point(task, rows, guessing):
@@ -73,6 +73,7 @@ def better_point(task, worth):
     if answer is not None:
         return _told_by(answer, worth)
     steps = TreeSearch(task, cuts=cuts, known=_first_point(task, cut_rows(task, cuts), 20))
+    steps.likely = True
     while True:
         if steps.worth is not None and steps.worth < worth:
             return ("point", steps.known)

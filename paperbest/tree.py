@@ -7,6 +7,7 @@ from paperbest.duals import relaxed
 from paperbest.errors import InvalidNumber, Refused
 from paperbest.finder import Finder
 from paperbest.leaves import tree_after
+from paperbest.likely import likely_place
 from paperbest.nodes import halving_place, point_count, reaches, settled_wish, split_place, whole_point
 from paperbest.numbers import ceiling_of, is_number
 from paperbest.papers import Best, Nothing, Paper, cut_rows, split_box
@@ -48,6 +49,8 @@ class TreeSearch:
         self.deep = deep
         self.halving = halving
         self.passes = passes
+        # Only the package asks for splits that are likely to help.
+        self.likely = False
         self.made = 0
         self.depth = 0
         self._rows = rows
@@ -163,6 +166,8 @@ class TreeSearch:
     def _split(self, node):
         if node.above >= self.halving:
             at, k = halving_place(node.box)
+        elif self.likely:
+            at, k = likely_place(self.task, node.box, node.spot)
         else:
             at, k = split_place(self.task, node.box, node.spot)
         below, above = split_box(node.box, at, k)
@@ -179,7 +184,18 @@ class TreeSearch:
 
 def search(task, *, cuts=(), known=None, deep=False, halving=40, passes=2):
     """The answer to a task by a search."""
-    steps = TreeSearch(task, cuts=cuts, known=known, deep=deep, halving=halving, passes=passes)
+    return _last_answer(TreeSearch(task, cuts=cuts, known=known, deep=deep, halving=halving, passes=passes))
+
+
+def likely_search(task, *, cuts=(), known=None, halving=40, passes=2):
+    """The same, with splits that are likely to help."""
+    steps = TreeSearch(task, cuts=cuts, known=known, deep=True, halving=halving, passes=passes)
+    steps.likely = True
+    return _last_answer(steps)
+
+
+def _last_answer(steps):
+    """The answer of a search when all its steps are taken."""
     more = True
     while more:
         more = steps.step()
