@@ -304,6 +304,34 @@ class TableausTest(unittest.TestCase):
                 self.assertEqual(cut_row(task, cuts, multipliers), row)
         self.assertGreater(made, 200)
 
+    def test_narrower_boxes(self):
+        # Columns at ends that are not the task's: some of the cuts let the spot through.
+        rng = generator(613)
+        through = made = 0
+        for _ in range(1500):
+            task = some_task(rng, rng.randint(2, 4), ("sum", "sum", "sum", "unlike"), 4, 9)
+            inner = tuple(tuple(sorted((rng.randint(low, high), rng.randint(low, high)))) for low, high in box_of(task))
+            tableau = tableau_of(task, (), inner)
+            if point_or_sum(tableau)[0] != "point":
+                continue
+            spot, wanted = tableau.point(), set()
+            forms = [tuple(int(place == at) for place in range(len(spot))) for at, value in enumerate(spot) if value[1] > 1]
+            if total(task.goal, [fraction(value) for value in spot]) % 1:
+                forms.append(task.goal)
+            for form in forms:
+                numbers = form_numbers(task, (), tableau, form)
+                for sign in (1, -1):
+                    told = cut_of(task, (), {key: (sign * top, bottom) for key, (top, bottom) in numbers.items()})
+                    if told is not None and depth_of(told[1], spot)[0] > 0:
+                        wanted.add(told[1])
+                    through += told is not None and depth_of(told[1], spot)[0] <= 0
+            pairs = rounded_sums(task, (), tableau)
+            HalvesTest.check_order(self, pairs, spot)
+            self.assertEqual({row for _, row in pairs}, wanted)
+            made += len(pairs)
+        self.assertGreater(through, 10)
+        self.assertGreater(made, 50)
+
     def test_nothing_to_round(self):
         tableau = Tableau((((2, 2), False, 5), ((4, -1), False, 1)), ((0, 9), (0, 9)))
         self.assertEqual(rounded_sums(TASK, (), tableau), ())

@@ -5,6 +5,7 @@ import time
 import unittest
 
 from paperbest.errors import Refused
+from paperbest.rings import round_draws, round_rests
 from paperbest.tasks import Task
 from paperbest.tours import round_answer, round_count, round_shaves
 from tests.test_crowds import check_number
@@ -100,6 +101,20 @@ class ToursTest(unittest.TestCase):
         for one in pairs:
             for other in pairs:
                 self.check(task, (one, other))
+
+    def test_boxes_that_rest_without_a_round(self):
+        # Draws alone do not show that these have no round, so their trees have splits of their own.
+        for box in (((0, 3), (4, 5), (0, 0), (2, 4), (3, 5), (0, 2)), ((3, 5), (0, 2), (1, 4), (2, 5), (0, 1), (4, 4)),
+                    ((5, 5), (0, 2), (1, 3), (2, 5), (0, 1), (3, 4)), ((3, 5), (0, 3), (1, 3), (5, 6), (0, 1), (6, 6), (2, 4)),
+                    ((4, 6), (7, 7), (2, 4), (1, 4), (3, 5), (6, 6), (0, 1), (0, 3)),
+                    ((3, 6), (6, 7), (1, 4), (2, 2), (3, 6), (0, 3), (5, 7), (1, 3)),
+                    ((-2, 3), (4, 9), (0, 0), (2, 4), (3, 9), (-1, 2))):
+            task = task_of(tuple(range(len(box))), len(box))
+            inner = box
+            for draw in round_draws(task, 0, box):
+                inner = left_out(inner, draw)[1]
+            self.assertTrue(round_rests(task, 0, inner))
+            self.assertGreater(self.check(task, box), 1)
 
     def test_counts(self):
         rng = generator(861)

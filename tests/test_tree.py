@@ -5,13 +5,13 @@ import unittest
 from paperbest.checker import is_answer
 from paperbest.duals import relaxed
 from paperbest.errors import InvalidNumber, InvalidPaper, InvalidPoint, Refused
-from paperbest.nodes import most_depth, most_nodes, point_count
-from paperbest.papers import Best, Nothing, Paper, cut_row, leaves_of
+from paperbest.nodes import halving_place, most_depth, most_nodes, point_count, split_place
+from paperbest.papers import Best, Nothing, Paper, cut_row, leaves_of, split_box
 from paperbest.tasks import Task, box_of
 from paperbest.tree import TreeSearch, best_points, kept_points, search
 from tests.test_papers import some_multipliers
 from tests.tools import (
-    KINDS, answer_is_right, fraction, generator, holds_all, kept_points_of, odd_values, plain_cut_rows,
+    KINDS, answer_is_right, fraction, generator, holds_all, kept_points_of, nodes_of, odd_values, plain_cut_rows,
     points_of, some_names, some_task, total, tree_is_right)
 
 BIG = 10 ** 6
@@ -79,8 +79,10 @@ class StepsTest(unittest.TestCase):
         left, many = steps.left(), 0
         self.assertEqual(steps.made, 1)
         while True:
-            before = steps.open_boxes()
+            before, last, least = steps.open_boxes(), steps.known, steps.worth
             more = steps.step()
+            # A point as good as the known one does not take its place.
+            self.assertEqual(last == steps.known, least == steps.worth)
             if not more:
                 self.assertIs(more, False)
                 break
@@ -107,6 +109,41 @@ class StepsTest(unittest.TestCase):
         self.assertTrue(is_answer(task, found))
         self.assertEqual((found.paper.cuts, found.paper.tree), (answer.paper.cuts, answer.paper.tree))
         return many, steps
+
+    def test_splits(self):
+        rng = generator(663)
+        split = halved = 0
+        for at in range(300):
+            task = some_task(rng, rng.randint(2, 4), KINDS, 4, 4)
+            halving = rng.choice((0, 1, 2, 40))
+            steps = TreeSearch(task, deep=True, halving=halving, passes=0)
+            while steps.open_boxes():
+                box = steps.open_boxes()[-1]
+                point, many, above = relaxed(task, (), box)[1], steps.made, self.above(steps, box, task)
+                steps.step()
+                if steps.made > many:
+                    place = halving_place(box) if above >= halving else split_place(task, box, point)
+                    sides = split_box(box, *place)
+                    tree = [node for inner, node in nodes_of(box_of(task), steps.paper().tree) if inner == box][0]
+                    self.assertEqual(tree[:3], ("split",) + place)
+                    self.assertLessEqual(set(steps.open_boxes()) - set(sides), set(steps.open_boxes()[:many]))
+                    split, halved = split + 1, halved + (above >= halving)
+            tree = steps.paper().tree
+            self.assertEqual((steps.made, steps.depth), (len(nodes_of(box_of(task), tree)), self.depth(tree)))
+        self.assertGreater(split, 200)
+        self.assertGreater(halved, 50)
+
+    def depth(self, tree):
+        return 1 + max(self.depth(tree[3]), self.depth(tree[4])) if tree[0] == "split" else 0
+
+    def above(self, steps, box, task):
+        """How many splits are above the node of an open box, as the paper shows it."""
+        tree, inner, above = steps.paper().tree, box_of(task), 0
+        while inner != box:
+            below, over = split_box(inner, *tree[1:3])
+            lower = all(one[0] <= other[0] and other[1] <= one[1] for one, other in zip(below, box))
+            tree, inner, above = (tree[3], below, above + 1) if lower else (tree[4], over, above + 1)
+        return above
 
     def test_all_kinds(self):
         rng = generator(660)
