@@ -6,7 +6,7 @@ import time
 import unittest
 from fractions import Fraction
 
-from paperbest.cuts import cut_of, depth_of, form_numbers, fraction_parts, half_cut, half_cuts, rounded_sums
+from paperbest.cuts import cut_of, deepest_first, depth_of, form_numbers, fraction_parts, half_cut, half_cuts, rounded_sums
 from paperbest.duals import relaxed, tableau_of
 from paperbest.papers import cut_row, cut_rows
 from paperbest.simplex import point_or_sum, to_best
@@ -137,6 +137,14 @@ class PartsTest(unittest.TestCase):
         self.assertEqual(depth_of(((2, -3), False, -1), ((1, 2), (1, 3))), (-1, 5))
         self.assertEqual(depth_of(((0, BIG), False, BIG), ((0, 1), (1, 1))), (0, 1))
         self.assertEqual(depth_of(((-2, 0), False, 1), ((0, 1), (1, 7))), (1, 2))
+
+    def test_deepest_first(self):
+        # Rows that the spot meets, keeps, and breaks, one of them twice.
+        spot = ((1, 1), (1, 2))
+        rows = (((2, 2), False, 3), ((1, 0), False, 0), ((1, 1), False, 2), ((1, 0), False, 2), ((1, 1), False, 2))
+        pairs = [((("low", at), (1, 1)),) for at in range(len(rows))]
+        self.assertEqual(deepest_first(list(zip(pairs, rows)), spot), ((pairs[3], rows[3]), (pairs[2], rows[2])))
+        self.assertEqual(deepest_first([], spot), ())
 
 
 class HalvesTest(unittest.TestCase):
